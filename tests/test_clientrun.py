@@ -93,6 +93,14 @@ class TestRun(unittest.TestCase):
         lines = [("step", "a", "here", "a", None), ("clear", "a", "l"), ("mark", "a", "m", 1), ("see", "a")]
         self.assertEqual(run(lines, web), ["thing", "no", "no", ("Ice", [0], [1])])
 
+    def test_a_link_to_a_frozen_thing(self):
+        house = House("A", [Kind("A", [link("to", "Ice"), link("or", "Ice")]), Kind("Ice", [link("to", "B")], frozen=True),
+                            Kind("B", [])])
+        web = Web(house, [("A", {"to": 1}), ("Ice", {"to": 2}), ("B", {})])
+        lines = [("step", "a", "here", "to", None), ("step", "b", "a", "to", None), ("link", "here", "or", "a"),
+                 ("link", "a", "to", "b"), ("link", "here", "or", "b"), ("see", "here")]
+        self.assertEqual(run(lines, web)[2:], ["done", "no", "no", ("A", [], [True, True])])
+
     def test_nothing(self):
         lost = ("step", "g", "here", "mayor", 0)
         for line in [("step", "h", "g", "friend", None), ("see", "g"), ("same", "g", "here"), ("same", "here", "g"),
@@ -291,6 +299,7 @@ class TestSession(unittest.TestCase):
             # A name that only tried lines gave is not known.
             self.assertEqual(raised(BadClient, session.do, ("see", "b")).line, 2)
         self.assertEqual(session.tried(lines=[]), [])
+        self.assertEqual(session.tried([("see", "a")]), [("Node", [5], [False, 0])])
         self.assertEqual([session.do(line) for line in lines], tells)
         self.assertEqual(session.count, 9)
 

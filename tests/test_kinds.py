@@ -7,7 +7,7 @@ from waypairs.errors import BadField, BadHouse, BadKind, UnknownField, UnknownKi
 from waypairs.kinds import Field, House, Kind
 
 WRONG_FIELD_NAMES = ["", "abcdefghi", "A", "aB", "a1", "a b", " a", "a\n", "a_b", "\xe9", "Abc"]
-WRONG_KIND_NAMES = ["", "a", "ab", "Abcdefghi", "AB", "A1", "A b", "1", " A", "A\n", "\xc9", "A\xe9"]
+WRONG_KIND_NAMES = ["", "a", "ab", "qq", "0", "0a", "Abcdefghi", "AB", "A1", "A b", "1", " A", "A\n", "\xc9", "A\xe9"]
 
 
 class TestField(unittest.TestCase):
@@ -391,6 +391,7 @@ class TestHouse(unittest.TestCase):
         house = House("A", kinds)
         kinds.append(Kind("B", []))
         self.assertEqual((len(house), house.names), (1, ("A",)))
+        self.assertEqual(house, House("A", (Kind("A", []),)))
 
     def test_with_kinds(self):
         house = House("A", [Kind("A", []), Kind("B", [])])

@@ -116,6 +116,10 @@ class TestLeastWebs(unittest.TestCase):
                 web = home_web(house, kind)
                 self.assertEqual(web is not None, kind in reached_kinds(house))
                 self.assertTrue(web is None or (is_home(web) and web.house == house))
+        ring = House("A", [Kind("A", [link("a", "B")]), Kind("B", [link("b", "B"), link("c", "C")]),
+                           Kind("C", [link("b", "B")]), Kind("Away", [])])
+        self.assertIsNone(home_web(ring, "Away"))
+        self.assertEqual([len(home_web(ring, kind)) for kind in "ABC"], [1, 2, 3])
         self.assertEqual([len(home_web(town_house(), kind)) for kind in town_house().names],
                          [1] + [2] * 9)
 

@@ -315,6 +315,14 @@ class TestEquality(unittest.TestCase):
                 self.assertNotEqual(one, another)
         self.assertEqual(Travel(TAG, reader=fewer), Travel(tag_house(), reader=fewer))
 
+    def test_unequal_sources_with_one_target(self):
+        kinds = [TAG.kind_named(name) for name in TAG.names[:7]]
+        first = TAG.with_kinds([*kinds, Kind("Dot", [mark("a")])])
+        other = TAG.with_kinds([*kinds, Kind("Dot", [mark("a", was=["b"])])])
+        one, two = Travel(first, reader=TAG), Travel(other, reader=TAG)
+        self.assertEqual((one.target, one.table()), (two.target, two.table()))
+        self.assertNotEqual(one, two)
+
 
 if __name__ == "__main__":
     unittest.main()

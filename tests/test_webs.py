@@ -177,6 +177,7 @@ class TestLooking(unittest.TestCase):
             for call in [lambda thing: web.kind_of(thing=thing), web.kind_of, web.steps,
                          lambda thing: web.follow(thing, 3), lambda thing: web[thing, "size"],
                          lambda thing: web[thing, 3], lambda thing: web.thing_at([3], start=thing),
+                         lambda thing: web.thing_at([], start=thing),
                          lambda thing: web.with_value(thing, "no", None)]:
                 self.assertIs(raised(BadWeb, call, value).thing, value)
         self.assertIsNone(raised(BadWeb, web.kind_of, None).thing)

@@ -121,7 +121,8 @@ class TestHouseText(unittest.TestCase):
                  "mark a 0 ", "mark abcdefghi 0", "mark a any", "mark a A", "link a", "link a a", "link a 0",
                  "link a None1", "link a A B", "link A any", "link a any was", "link a any was 1", "list a",
                  "list a Abcdefghi", "list a any any", "set a any", "Mark a 0", "mark a 0 Was b", "field a mark",
-                 "mark a 0 was b was c", "list a any was b c d", "link a any x b"]
+                 "mark a 0 was b was c", "list a any was b c d",
+                 "mark a any was b", "link a 0 was b", "set a any was b", "mark A 0 was b", "link a any x b"]
         wrong.extend("mark a " + number for number in WRONG_NUMBERS)
         for line in wrong:
             self.refused(2, "house A\nkind A\n" + line)

@@ -113,7 +113,7 @@ class Session:
         field = self._field(things[0], line[2])
         if house.is_frozen(kind) or field is None or field.mode != SET_MODES[line[0]]:
             return False
-        if line[0] == "link" and len(things) == 2:
+        if len(things) == 2:
             return house.admits(field.target, self._web.kind_of(things[1]))
         return field.name != house.key_of(kind)
 
@@ -134,10 +134,7 @@ class Session:
 def run(client, web):
     """The tells of a client on a web."""
     check(client)
-    if web.old is None:
-        for at, line in enumerate(client):
-            if "old" in known_names(line):
-                raise BadClient(at)
+    # All lines are right: the session refuses none but the first one with an old that the web does not have.
     session = Session(web)
     return [session.do(line) for line in client]
 

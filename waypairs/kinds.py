@@ -3,18 +3,18 @@
 from waypairs.errors import BadField, BadHouse, BadKind, UnknownField, UnknownKind
 from waypairs.forms import are_different, is_default, is_field_name, is_integer, is_kind_name
 
-MODES = ("mark", "link", "list")
+SLOT_MODES = ("link", "list")
 ANY = "any"
 OLD_NAMES = 2
 
 
 def _fits_mode(mode, target, default):
-    """Whether a field of this mode can have this target and this default."""
+    """Whether any values are a mode, and a target and a default for it."""
     if mode == "mark":
         return target is None and is_default(default)
-    if mode not in MODES or not is_integer(default) or default != 0:
+    if mode not in SLOT_MODES or not is_integer(default) or default != 0:
         return False
-    return is_kind_name(target) or (isinstance(target, str) and target == ANY)
+    return target == ANY or is_kind_name(target)
 
 
 def _is_was(name, was):
@@ -196,10 +196,9 @@ class House:
     def field_of(self, kind, name):
         """The field of a kind with this name."""
         self._check(kind)
-        if isinstance(name, str):
-            for field in self._fields[kind]:
-                if field.name == name:
-                    return field
+        for field in self._fields[kind]:
+            if field.name == name:
+                return field
         raise UnknownField(kind, name)
 
     def marks_of(self, kind):
@@ -243,7 +242,7 @@ class House:
 
     def admitted(self, target):
         """The names of the kinds that a target admits, in the order of the house."""
-        if target not in self and not (isinstance(target, str) and target == ANY):
+        if target != ANY and target not in self:
             raise UnknownKind(target)
         return [name for name in self.names if self._lets(target, name)]
 

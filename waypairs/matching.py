@@ -8,7 +8,7 @@ from waypairs.pairwalk import PairWalk
 def walked_pairs(first, second, manners):
     """The walked pairs, in the order of first meeting."""
     check_webs([first, second], manners)
-    return list(PairWalk(first, second, manners).pairs)
+    return PairWalk(first, second, manners).pairs
 
 
 def _reached_kinds(web, manners):
@@ -35,8 +35,6 @@ def _is_movable(web, thing, reached):
 def is_movable(web, thing, manners):
     """Whether a client can change a thing."""
     check_webs([web], manners)
-    if thing not in web:
-        raise BadWeb(thing)
     return _is_movable(web, thing, _reached_kinds(web, manners))
 
 
@@ -81,8 +79,6 @@ def alike(first, second, manners):
 def twinned(web, thing, step):
     """The web in which a step of a thing leads to a twin of the thing to which it led."""
     check_sizes([web])
-    if thing not in web:
-        raise BadWeb(thing)
     held = web.follow(thing, step)
     if held is None:
         raise BadWeb(thing)

@@ -10,40 +10,48 @@ def root_pairs(first, second, manners):
     return {"here": (first.here, second.here)}
 
 
-def _sights(web):
-    """The sights of all things of a web."""
-    return [sight(web, thing) for thing in range(len(web))]
-
-
 class PairWalk:
     """The walked pairs of two webs, in the order of first meeting."""
 
     def __init__(self, first, second, manners):
-        sights = _sights(first)
-        others = _sights(second)
-        pairs = []
-        # For each walked pair those to which a step leads, with the first such step.
-        self.following = {}
+        self.first = first
+        self.second = second
+        self.roots = root_pairs(first, second, manners)
         # The first walked pair of unequal sights, if there is one.
         self.unequal = None
-        for pair in root_pairs(first, second, manners).values():
-            if pair not in pairs:
-                pairs.append(pair)
-        seen = {pair: True for pair in pairs}
+        self.pairs = self._walked()
+
+    def _walked(self):
+        """The walked pairs; the first unequal one is kept."""
+        sights = [sight(self.first, x) for x in range(len(self.first))]
+        others = [sight(self.second, y) for y in range(len(self.second))]
+        held = [self.first.held_by(x) for x in range(len(self.first))]
+        other_held = [self.second.held_by(y) for y in range(len(self.second))]
+        pairs = []
+        met = [[False for _ in others] for _ in sights]
+        for x, y in self.roots.values():
+            if not met[x][y]:
+                met[x][y] = True
+                pairs.append((x, y))
         at = 0
         while at < len(pairs):
             x, y = pairs[at]
             at += 1
-            steps = {}
             if sights[x] == others[y]:
-                for step, left, right in zip(first.steps(x), first.held_by(x), second.held_by(y)):
-                    if (left, right) not in steps:
-                        steps[left, right] = step
+                for left, right in zip(held[x], other_held[y]):
+                    if not met[left][right]:
+                        met[left][right] = True
+                        pairs.append((left, right))
             elif self.unequal is None:
                 self.unequal = (x, y)
-            self.following[x, y] = steps
-            for pair in steps:
-                if pair not in seen:
-                    seen[pair] = True
-                    pairs.append(pair)
-        self.pairs = pairs
+        return pairs
+
+    def following(self, pair):
+        """The pairs to which steps lead from a walked pair, each with the first such step."""
+        x, y = pair
+        steps = {}
+        if sight(self.first, x) == sight(self.second, y):
+            for step, left, right in zip(self.first.steps(x), self.first.held_by(x), self.second.held_by(y)):
+                if (left, right) not in steps:
+                    steps[left, right] = step
+        return steps

@@ -2,7 +2,7 @@
 
 from waypairs.bounds import check_webs
 from waypairs.errors import TooLarge
-from waypairs.pairwalk import PairWalk, root_pairs
+from waypairs.pairwalk import PairWalk
 from waypairs.trees import NEVER, Both, PairGraph, Reach, StepLines
 
 MOST_PAIRS = 64
@@ -50,7 +50,7 @@ class Partings:
         self.web = first
         self.manners = manners
         self.pairs = walk.pairs
-        self.graph = PairGraph(walk, root_pairs(first, second, manners))
+        self.graph = PairGraph(walk)
         self.unequal = [at for at, pair in enumerate(walk.pairs) if pair == walk.unequal]
 
     def best(self):

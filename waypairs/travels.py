@@ -17,13 +17,13 @@ def _has_own(house, kind, field):
 
 def _check_keys(source, fates, rules, unheard):
     """Raises for the least key that is wrong, of each dict in turn."""
-    for kind, field in sorted(list(fates)):
+    for kind, field in sorted(fates):
         if not _has_own(source, kind, field):
             raise BadTravel(kind, field)
-    for kind in sorted(list(rules)):
+    for kind in sorted(rules):
         if kind not in source:
             raise BadTravel(kind, None)
-    for kind in sorted(list(unheard)):
+    for kind in sorted(unheard):
         if kind not in source or not source.lets_heirs(kind):
             raise BadTravel(kind, None)
 
@@ -109,9 +109,8 @@ class Travel:
 
     def _owner(self, kind, field):
         """The kind that has a field of a kind as its own; raises for any values that are no kind and no field."""
-        self._check(kind)
         for name in (kind, self.source.kind_named(kind).base):
-            if name is not None and _has_own(self.source, name, field):
+            if _has_own(self.source, name, field):
                 return name
         raise UnknownField(kind, field)
 
@@ -149,4 +148,4 @@ class Travel:
         else:
             fates[self._owner(kind, field), field] = value
         reader = self.target if self.is_saving else None
-        return Travel(self.source, fates=fates, rules=rules, unheard=dict(self._unheard), reader=reader)
+        return Travel(self.source, fates=fates, rules=rules, unheard=self._unheard, reader=reader)

@@ -29,15 +29,15 @@ def _distances(edges, start):
 class PairGraph:
     """The walked pairs as nodes, and the fewest steps between them."""
 
-    def __init__(self, walk, named):
+    def __init__(self, walk):
         numbers = {pair: at for at, pair in enumerate(walk.pairs)}
         self.stem = len(numbers)
         # The names of the nodes that are roots.
-        self.roots = {numbers[pair]: name for name, pair in named.items()}
+        self.roots = {numbers[pair]: name for name, pair in walk.roots.items()}
         # For each node those that follow it, with a step that leads there.
         self.edges = []
         for start in walk.pairs:
-            following = walk.following[start]
+            following = walk.following(start)
             self.edges.append({numbers[pair]: following[pair] for pair in following})
         # For each node the fewest steps to each node, the stem as the last one.
         self.far = [[*_distances(self.edges, node), NEVER] for node in range(self.stem)]

@@ -207,9 +207,7 @@ class Web:
     def with_value(self, thing, field, value):
         """A web in which a field of a thing has another value."""
         self._value(thing, field)
-        kind = self._kinds[thing]
-        if not _can_hold(self.house, self.house.field_of(kind, field), value, self._kinds):
-            raise BadWeb(thing)
+        # A value that the field cannot hold is refused with the number of the thing when the web is made.
         things = self.things()
         values = things[thing][1]
         values[field] = value
@@ -233,4 +231,4 @@ class Web:
                 for step, held in zip(self.steps(thing), self.held_by(thing)):
                     queue.append(([*way, step], held))
             at += 1
-            yield list(way)
+            yield way

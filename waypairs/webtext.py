@@ -70,27 +70,32 @@ def _lines_of(text):
     return [line.split(" ") for line in text.split("\n")]
 
 
+def _word_at(words, at):
+    """The word at a place of a line, the empty one behind its end."""
+    return words[at] if at < len(words) else ""
+
+
 def _kind_parts(words):
     """The parts of a kind line as a dict, or None if the words have not its form."""
-    if len(words) < 2 or words[0] != "kind" or not is_kind_name(words[1]):
+    if words[0] != "kind" or not is_kind_name(_word_at(words, 1)):
         return None
     parts = {"base": None, "frozen": False, "heirs": False, "key": None, "registered": False}
     at = 2
-    if words[at:at + 1] == ["of"]:
-        if not is_kind_name("".join(words[at + 1:at + 2])):
+    if _word_at(words, at) == "of":
+        parts["base"] = _word_at(words, at + 1)
+        if not is_kind_name(parts["base"]):
             return None
-        parts["base"] = words[at + 1]
         at += 2
     for part in ("frozen", "heirs"):
-        if words[at:at + 1] == [part]:
+        if _word_at(words, at) == part:
             parts[part] = True
             at += 1
-    if words[at:at + 1] == ["key"]:
-        if not is_field_name("".join(words[at + 1:at + 2])):
+    if _word_at(words, at) == "key":
+        parts["key"] = _word_at(words, at + 1)
+        if not is_field_name(parts["key"]):
             return None
-        parts["key"] = words[at + 1]
         at += 2
-    if words[at:at + 1] == ["registered"]:
+    if _word_at(words, at) == "registered":
         parts["registered"] = True
         at += 1
     return parts if at == len(words) else None
@@ -182,8 +187,9 @@ def _is_thing_line(house, words):
     modes = {field.name: field.mode for field in house.fields_of(words[1])}
     seen = {}
     for word in words[2:]:
-        name, sign, value = word.partition("=")
-        if sign == "" or name not in modes or name in seen or not _is_value_word(modes[name], value):
+        # A word without the sign has an empty value, which has no form.
+        name, _, value = word.partition("=")
+        if name not in modes or name in seen or not _is_value_word(modes[name], value):
             return False
         seen[name] = True
     return True
