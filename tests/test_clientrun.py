@@ -39,7 +39,7 @@ class TestRun(unittest.TestCase):
                          ["thing", "none"])
 
     def test_see(self):
-        self.assertEqual(self.told(("see", "here"), ("see", "b"), ("see", "c"), ("see", "e"), ("see", "f"), ("see", "d")),
+        self.assertEqual(self.told(*[("see", name) for name in ("here", "b", "c", "e", "f", "d")]),
                          [("Town", [3], [True, 4]), ("Clerk", [30, 8], [True, 2]), ("Tag", [5, -5], []),
                           ("Stamp", [9], []), ("Judge", [60], [False, True]), ("Paper", [1], [True])])
         tell = self.told(("see", "f"))[0]
@@ -94,8 +94,8 @@ class TestRun(unittest.TestCase):
         self.assertEqual(run(lines, web), ["thing", "no", "no", ("Ice", [0], [1])])
 
     def test_a_link_to_a_frozen_thing(self):
-        house = House("A", [Kind("A", [link("to", "Ice"), link("or", "Ice")]), Kind("Ice", [link("to", "B")], frozen=True),
-                            Kind("B", [])])
+        house = House("A", [Kind("A", [link("to", "Ice"), link("or", "Ice")]),
+                            Kind("Ice", [link("to", "B")], frozen=True), Kind("B", [])])
         web = Web(house, [("A", {"to": 1}), ("Ice", {"to": 2}), ("B", {})])
         lines = [("step", "a", "here", "to", None), ("step", "b", "a", "to", None), ("link", "here", "or", "a"),
                  ("link", "a", "to", "b"), ("link", "here", "or", "b"), ("see", "here")]
@@ -104,7 +104,8 @@ class TestRun(unittest.TestCase):
     def test_nothing(self):
         lost = ("step", "g", "here", "mayor", 0)
         for line in [("step", "h", "g", "friend", None), ("see", "g"), ("same", "g", "here"), ("same", "here", "g"),
-                     ("same", "g", "g"), ("mark", "g", "age", 1), ("link", "g", "friend", None), ("clear", "g", "parts"),
+                     ("same", "g", "g"), ("mark", "g", "age", 1), ("link", "g", "friend", None),
+                     ("clear", "g", "parts"),
                      ("link", "a", "friend", "g"), ("mark", "g", "no", 1), ("link", "d", "stamp", "g"),
                      ("link", "a", "no", "g")]:
             self.assertEqual(self.told(lost, line, ("see", "a"), ("see", "here")),

@@ -37,7 +37,8 @@ class TestCheck(unittest.TestCase):
     def test_no_line(self):
         for value in any_values() + [("see",), ("no", "here"), ["see", "here"], "see", ("see", "here", "here"),
                                      ("same", "here"), ("same", "here", "old", "old"), ("step", "a", "here", "f"),
-                                     ("step", "a", "here", "f", None, None), ("mark", "here", "f"), ("link", "here", "f"),
+                                     ("step", "a", "here", "f", None, None), ("mark", "here", "f"),
+                                     ("link", "here", "f"),
                                      ("clear", "here"), ("clear", "here", "f", None), ("mark", "here", "f", 1, 2),
                                      ("link", "here", "f", None, None), (["see"], "here"), (None, "here"),
                                      ("See", "here"), ("", "here")]:

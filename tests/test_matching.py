@@ -214,7 +214,8 @@ class TestMatching(unittest.TestCase):
             self.check(one, two, self.ASK + (self.SET if movable else []))
 
     def test_old_alone_tells(self):
-        self.check(node_web({}, old=0), node_web({}, {}, old=1), [("ask", "old"), ("ask", "old", "set"), ("old", "set")])
+        self.check(node_web({}, old=0), node_web({}, {}, old=1),
+                   [("ask", "old"), ("ask", "old", "set"), ("old", "set")])
         # With old among the manners what only old reaches makes a thing movable.
         house = ice_house()
         one = Web(house, [("Bag", {}), ("Hook", {}), ("Tag", {})], here=1, old=2)

@@ -93,8 +93,8 @@ class TestParting(unittest.TestCase):
                             Kind("K", [mark("k")], key="k"), Kind("C", [mark("k"), mark("m")], key="k"),
                             Kind("F", [mark("m")], frozen=True), Kind("E", [link("to", "E")]), Kind("D", [])])
         for kind, values, lines in [("L", {"to": 0}, 4), ("M", {"to": [0]}, 4), ("M", {}, None), ("K", {}, None),
-                                    ("C", {}, 4), ("C", {"m": 1}, 4), ("F", {}, None), ("E", {}, 4), ("D", {}, None),
-                                    ("L", {}, 4)]:
+                                    ("C", {}, 4), ("C", {"m": 1}, 4), ("C", {"k": 5}, 4), ("K", {"k": 5}, None),
+                                    ("F", {}, None), ("E", {}, 4), ("D", {}, None), ("L", {}, 4)]:
             one = Web(house, [("A", {"all": [1, 1]}), (kind, values)])
             two = Web(house, [("A", {"all": [1, 2]}), (kind, values), (kind, values)])
             self.check(one, two, Manners("set"), lines)
@@ -136,7 +136,8 @@ class TestParting(unittest.TestCase):
         found = {}
         for at in range(700):
             house = (NODE, ice_house(), bare_house())[at % 3]
-            first = some_web(chance, chance.randrange(1, 5), house=house, kinds=house.names, old=True, marks=1, places=2)
+            first = some_web(chance, chance.randrange(1, 5), house=house, kinds=house.names, old=True, marks=1,
+                             places=2)
             second = self.another(chance, first)
             for manners in Manners.every():
                 lines = parting_lines(first, second, manners)

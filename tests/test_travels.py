@@ -301,7 +301,8 @@ class TestEquality(unittest.TestCase):
                                              unheard={"Base": DUE}))
         self.assertEqual(Travel(TAG, rules={"Base": "marks"}),
                          Travel(TAG, rules={"Base": "marks", "Heir": "marks", "Other": "marks"}))
-        self.assertNotEqual(Travel(TAG, rules={"Base": "marks"}), Travel(TAG, rules={"Base": "marks", "Heir": "itself"}))
+        self.assertNotEqual(Travel(TAG, rules={"Base": "marks"}),
+                            Travel(TAG, rules={"Base": "marks", "Heir": "itself"}))
 
     def test_each_part(self):
         other = TAG.with_kinds([TAG.kind_named(name) for name in TAG.names], root="Dot")

@@ -82,7 +82,8 @@ class TestMaking(unittest.TestCase):
     def test_lists(self):
         self.assertEqual(node_web({"all": [1, 0, 1]}, {"all": ()})[0, "all"], [1, 0, 1])
         self.assertEqual(node_web({"all": (1, 0, 1)}, {})[0, "all"], [1, 0, 1])
-        for value in [None, 0, "", "0", {}, {0: 0}, [-1], [2], [True], [False], [None], ["0"], [[0]], [0, 0, 2], (0, -1)]:
+        for value in [None, 0, "", "0", {}, {0: 0}, [-1], [2], [True], [False], [None], ["0"], [[0]], [0, 0, 2],
+                      (0, -1)]:
             self.refused(0, NODE, [("Node", {"all": value}), ("Node", {})])
         for value in any_values():
             self.refused(0, NODE, [("Node", {"all": [0, value]})])

@@ -220,7 +220,8 @@ class TestWebText(unittest.TestCase):
                  " thing Node", "thing Node ", "thing Node age=1 ", "thing Node  age=1", "node Node", "thing Node age",
                  "thing Node age=1 age=1", "thing Node age=1 next=- age=2", "thing Node no=1", "thing Node Age=1",
                  "thing Node =1", "thing Node age==1", "thing Node age=-", "thing Node age=1,2", "thing Node next=",
-                 "thing Node next=0,0", "thing Node next=--", "thing Node all=", "thing Node all=,", "thing Node all=0,",
+                 "thing Node next=0,0", "thing Node next=--", "thing Node all=", "thing Node all=,",
+                 "thing Node all=0,",
                  "thing Node all=,0", "thing Node all=0,,0", "thing Node all=0,-", "thing Node all=-,0",
                  "thing Node all=[0]", "thing Node all=0 0", "thing Node all=0, 0", "thing Node next=None", "web 0",
                  "thing Node age= 1", "thing Node age =1"]
