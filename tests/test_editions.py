@@ -73,12 +73,12 @@ class TestSourceField(unittest.TestCase):
     def test_errors(self):
         reader = one_kind(mark("b"))
         for value in any_values() + ["any"]:
-            self.assertIs(raised(UnknownKind, source_field, one_kind(mark("a")), reader, value, "b").kind, value)
+            self.assertIs(raised(UnknownKind, source_field, one_kind(mark("a")), reader, value, "b").name, value)
         for value in any_values() + ["a"]:
             error = raised(UnknownField, source_field, one_kind(mark("a")), reader, "A", value)
             self.assertEqual(error.kind, "A")
             self.assertIs(error.name, value)
-        self.assertEqual(raised(UnknownKind, source_field, reader, reader, "No", "no").kind, "No")
+        self.assertEqual(raised(UnknownKind, source_field, reader, reader, "No", "no").name, "No")
 
 
 class TestReaderFault(unittest.TestCase):

@@ -7,7 +7,7 @@ from waypairs.errors import WayError
 from waypairs.manners import Manners
 
 PARTS = {
-    "BadField": ["name"], "BadKind": ["name"], "BadHouse": ["name"], "UnknownKind": ["kind"],
+    "BadField": ["name"], "BadKind": ["name"], "BadHouse": ["name"], "UnknownKind": ["name"],
     "UnknownField": ["kind", "name"], "BadWeb": ["thing"], "BadText": ["line"], "BadManner": ["name"],
     "BadClient": ["line"], "BadTravel": ["kind", "field"], "BadReader": ["kind"], "BadRow": ["travel"],
     "Endless": ["travel"], "TooLarge": ["count"], "BadSaved": ["line"], "BadStanding": [], "BadPaper": [],

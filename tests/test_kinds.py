@@ -297,8 +297,8 @@ class TestHouse(unittest.TestCase):
                      house.is_frozen, house.is_registered, house.is_leaf, house.is_movable, house.key_of,
                      house.heirs_of, house.leads, house.leads_far]:
             for value in any_values() + ["any"]:
-                self.assertIs(raised(UnknownKind, call, value).kind, value)
-                self.assertIs(raised(UnknownKind, call, kind=value).kind, value)
+                self.assertIs(raised(UnknownKind, call, value).name, value)
+                self.assertIs(raised(UnknownKind, call, kind=value).name, value)
 
     def test_kind_named(self):
         self.assertEqual(self.house.kind_named("Dot"), Kind("Dot", []))
@@ -315,7 +315,7 @@ class TestHouse(unittest.TestCase):
             self.assertEqual(error.kind, "Person")
             self.assertIs(error.name, value)
         self.assertEqual(raised(UnknownField, self.house.field_of, "Person", "desk").name, "desk")
-        self.assertEqual(raised(UnknownKind, self.house.field_of, "No", "no").kind, "No")
+        self.assertEqual(raised(UnknownKind, self.house.field_of, "No", "no").name, "No")
         self.assertEqual(self.house.marks_of("Clerk"), ["age", "desk"])
         self.assertEqual(self.house.slots_of("Clerk"), ["friend", "papers"])
         self.assertEqual(self.house.slots_of("Town"), ["mayor", "parts"])
@@ -348,18 +348,18 @@ class TestHouse(unittest.TestCase):
         self.assertEqual(self.house.admitted("Person"), ["Person", "Clerk", "Judge"])
         self.assertEqual(self.house.admitted(target="Clerk"), ["Clerk"])
         for value in any_values():
-            self.assertIs(raised(UnknownKind, self.house.admitted, value).kind, value)
+            self.assertIs(raised(UnknownKind, self.house.admitted, value).name, value)
 
     def test_admits(self):
         self.assertIs(self.house.admits("Person", "Clerk"), True)
         self.assertIs(self.house.admits("Clerk", "Person"), False)
         self.assertIs(self.house.admits("any", "Dot"), True)
         self.assertIs(self.house.admits(target="Clerk", kind="Clerk"), True)
-        self.assertEqual(raised(UnknownKind, self.house.admits, "No", "None").kind, "No")
-        self.assertEqual(raised(UnknownKind, self.house.admits, "Town", "any").kind, "any")
+        self.assertEqual(raised(UnknownKind, self.house.admits, "No", "None").name, "No")
+        self.assertEqual(raised(UnknownKind, self.house.admits, "Town", "any").name, "any")
         for value in any_values():
-            self.assertIs(raised(UnknownKind, self.house.admits, value, "Town").kind, value)
-            self.assertIs(raised(UnknownKind, self.house.admits, "any", value).kind, value)
+            self.assertIs(raised(UnknownKind, self.house.admits, value, "Town").name, value)
+            self.assertIs(raised(UnknownKind, self.house.admits, "any", value).name, value)
 
     def test_leads(self):
         self.assertEqual(self.house.leads("Judge"), ["Town", "Person", "Clerk", "Judge"])

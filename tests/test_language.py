@@ -58,6 +58,47 @@ def bound_names(function):
                     and isinstance(node.ctx, ast.Store)]
 
 
+def names_of_one_value(function):
+    """For each name the names that an assignment of the function lets go by one value with it."""
+    groups = {}
+    for node in ast.walk(function):
+        if isinstance(node, ast.Assign) and isinstance(node.value, (ast.Name, ast.IfExp, ast.BoolOp)):
+            names = {one.id for part in [*node.targets, node.value] for one in ast.walk(part)
+                     if isinstance(one, ast.Name)}
+            for name in list(names):
+                names |= groups.get(name, set())
+            for name in names:
+                groups[name] = names
+    return groups
+
+
+def walked_names(node):
+    """The names and attributes, as they are written, that are walked by what stands behind an `in`."""
+    if isinstance(node, (ast.Name, ast.Attribute, ast.Subscript)):
+        return [ast.unparse(node)]
+    if isinstance(node, ast.Call):
+        called = node.func.attr if isinstance(node.func, ast.Attribute) else node.func.id
+        if called in ("items", "keys", "values"):
+            return walked_names(node.func.value)
+        if called in ("enumerate", "zip", "reversed"):
+            return [name for arg in node.args for name in walked_names(arg)]
+    return []
+
+
+def changed_names(row):
+    """The names and attributes, as they are written, that a statement changes."""
+    found = []
+    for node in ast.walk(row):
+        if isinstance(node, ast.Call) and isinstance(node.func, ast.Attribute) and node.func.attr in (
+                "append", "clear", "extend", "insert", "pop", "remove", "reverse", "setdefault", "update"):
+            found.append(ast.unparse(node.func.value))
+        if isinstance(node, ast.Subscript) and not isinstance(node.ctx, ast.Load):
+            found.append(ast.unparse(node.value))
+        if isinstance(node, ast.AugAssign):
+            found.append(ast.unparse(node.target))
+    return found
+
+
 class TestFiles(unittest.TestCase):
     def test_folder(self):
         kept = [path.name for path in PACKAGE.iterdir() if path.name != "__pycache__"]
@@ -246,6 +287,18 @@ class TestStatements(unittest.TestCase):
                     name = node.func.id if isinstance(node.func, ast.Name) else node.func.attr
                     if name in ("zip", "enumerate", "range", "reversed", "items", "keys", "values"):
                         self.assertIn(id(node), allowed, (path, node.lineno))
+
+
+    def test_walked_lists_are_not_changed(self):
+        """What a loop walks is not changed in it, nor a list that shares a name with it anywhere in the function."""
+        for path, tree in TREES.items():
+            for function in functions(tree):
+                alike = names_of_one_value(function)
+                for node in ast.walk(function):
+                    if isinstance(node, ast.For):
+                        walked = {name for one in walked_names(node.iter) for name in alike.get(one, {one})}
+                        changed = {one for row in node.body for one in changed_names(row)}
+                        self.assertEqual(walked & changed, set(), (path, node.lineno))
 
 
 class TestClasses(unittest.TestCase):

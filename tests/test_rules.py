@@ -87,8 +87,8 @@ class TestLeastWebs(unittest.TestCase):
 
     def test_unknown_kinds(self):
         for value in any_values() + ["any"]:
-            self.assertIs(raised(UnknownKind, least_web, NODE, value).kind, value)
-            self.assertIs(raised(UnknownKind, home_web, NODE, value).kind, value)
+            self.assertIs(raised(UnknownKind, least_web, NODE, value).name, value)
+            self.assertIs(raised(UnknownKind, home_web, NODE, value).name, value)
 
     def test_reached_kinds(self):
         self.assertEqual(reached_kinds(town_house()), list(town_house().names))

@@ -213,7 +213,7 @@ class TestAsking(unittest.TestCase):
         self.assertEqual(self.travel.fate("Other", "c"), "lost")
         self.assertEqual((self.travel.fate("Heir", "d"), self.travel.fate("A", "tag")), ("goes", "named"))
         for value in any_values() + ["any"]:
-            self.assertIs(raised(UnknownKind, self.travel.fate, value, value).kind, value)
+            self.assertIs(raised(UnknownKind, self.travel.fate, value, value).name, value)
         for value in any_values() + ["d"]:
             error = raised(UnknownField, self.travel.fate, "Base", value)
             self.assertEqual(error.kind, "Base")
@@ -228,8 +228,8 @@ class TestAsking(unittest.TestCase):
         for kind in ("A", "Heir", "Dot"):
             self.assertIsNone(self.travel.unheard(kind))
         for value in any_values() + ["any"]:
-            self.assertIs(raised(UnknownKind, self.travel.rule, value).kind, value)
-            self.assertIs(raised(UnknownKind, self.travel.unheard, value).kind, value)
+            self.assertIs(raised(UnknownKind, self.travel.rule, value).name, value)
+            self.assertIs(raised(UnknownKind, self.travel.unheard, value).name, value)
 
     def test_table(self):
         table = self.travel.table()
@@ -265,7 +265,7 @@ class TestAsking(unittest.TestCase):
     def test_changed_by_wrong_values(self):
         travel = self.travel
         for value in any_values() + ["any"]:
-            self.assertIs(raised(UnknownKind, travel.changed, value, None, None).kind, value)
+            self.assertIs(raised(UnknownKind, travel.changed, value, None, None).name, value)
         for value in any_values() + ["d"]:
             if value is not None:
                 error = raised(UnknownField, travel.changed, "Base", value, None)

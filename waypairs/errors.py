@@ -29,8 +29,8 @@ class BadHouse(WayError):
 class UnknownKind(WayError):
     """A house has no kind of this name."""
 
-    def __init__(self, kind):
-        self.kind = kind
+    def __init__(self, name):
+        self.name = name
 
 
 class UnknownField(WayError):

@@ -55,7 +55,8 @@ class Ranks:
         pairs = [(x, y) for x in range(len(first)) for y in range(len(second))]
         for rank, numbers in enumerate(_rounds([first, second])):
             equal = []
-            for x, y in pairs:
+            # The list that is walked is a copy: the one that is filled takes its name afterwards.
+            for x, y in list(pairs):
                 if numbers[x] == numbers[len(first) + y]:
                     equal.append((x, y))
                 else:
