@@ -14,6 +14,11 @@ FUNCTIONS = {
                  "matching(first, second, manners)", "alike(first, second, manners)", "twinned(web, thing, step)"],
     "parting": ["parting(first, second, manners)", "parting_lines(first, second, manners)"],
     "alikejudge": ["matching_fault(first, second, manners, pairs)", "parting_fault(first, second, manners, client)"],
+    "memos": ["memo_key(rule, thing, kind, marks)"],
+    "events": ["entries(events)", "most_open(events)", "walk_events(heap, travel)",
+               "walk_fault(heap, travel, events)", "written(events)", "read_events(text)"],
+    "saved": ["saved(web, *, named=())", "sent(travel, web)"],
+    "reading": ["read_saved(house, text, *, known=None)", "brought(travel, text, known)"],
     "editions": ["source_field(writer, reader, kind, field)", "reader_fault(writer, reader)", "led(web, reader)"],
 }
 CLASSES = {
@@ -52,6 +57,24 @@ CLASSES = {
         "Travel(source, *, fates=None, rules=None, unheard=None, reader=None)": [
             "__eq__(self, other)", "fate(self, kind, field)", "rule(self, kind)", "unheard(self, kind)",
             "table(self)", "changed(self, kind, field, value)"],
+    },
+    "memos": {
+        "Memo(number)": ["__len__(self)", "__contains__(self, x)", "known(self, key)", "keep(self, key, new)",
+                         "kept(self)"],
+    },
+    "walk": {
+        "Heap(web)": [
+            "__len__(self)", "__contains__(self, x)", "__getitem__(self, at)", "kind_of(self, n)",
+            "value_of(self, n, field)", "origin_of(self, n)", "memo_of(self, n)", "travel_of(self, n)",
+            "house_of(self, n)", "descent(self, n)", "home_thing(self, kind, key)", "copied(self)"],
+        "Walk(heap, travel)": ["step(self)", "finish(self)", "told(self)", "give_up(self)"],
+    },
+    "registers": {
+        "Register(web)": ["__contains__(self, x)", "__len__(self)", "__iter__(self)", "values_of(self, kind, key)"],
+    },
+    "rows": {
+        "Row(travels)": ["__len__(self)", "__iter__(self)", "__getitem__(self, at)", "__eq__(self, other)",
+                         "__rshift__(self, other)", "houses(self)", "cut(self, k)"],
     },
 }
 

@@ -24,7 +24,8 @@ NOT_IN_TEXT = set("""type typing typing_extensions enum Enum IntEnum StrEnum Fla
 STATEMENTS = (ast.Assign, ast.AugAssign, ast.If, ast.While, ast.For, ast.Return, ast.Break, ast.Continue, ast.Pass,
               ast.Raise, ast.Assert, ast.Delete, ast.Try, ast.Expr, ast.FunctionDef, ast.ClassDef, ast.ImportFrom)
 DESCRIBED_ORDER = """errors kinds webs rules webtext manners clients clientrun refine matching parting alikejudge
-    editions registers travels memos walk events saved reading rows fieldtables journeys""".split()
+    editions registers travels memos walk events saved reading rows fieldtables journeys
+    oneway rowrings meetings standings closure""".split()
 
 
 def trees():
@@ -233,7 +234,8 @@ class TestStatements(unittest.TestCase):
         for path, tree in TREES.items():
             for node in ast.walk(tree):
                 if isinstance(node, ast.ExceptHandler):
-                    self.assertIn(node.type.id, own, (path, node.lineno))
+                    caught = node.type.elts if isinstance(node.type, ast.Tuple) else [node.type]
+                    self.assertLessEqual({one.id for one in caught}, own, (path, node.lineno))
                 if isinstance(node, ast.Raise) and node.exc is not None:
                     self.assertIn(node.exc.func.id, own | {"TypeError"}, (path, node.lineno))
 
@@ -332,7 +334,7 @@ class TestClasses(unittest.TestCase):
         for path, tree in TREES.items():
             names = [function.name for function in functions(tree)
                      if any(isinstance(node, ast.Yield) for node in ast.walk(function))]
-            self.assertIn(names, ([], ["ways"]), path)
+            self.assertLessEqual(set(names), {"ways", "walk_events"}, path)
 
     def test_equality_form(self):
         for path, tree in TREES.items():

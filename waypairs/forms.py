@@ -57,3 +57,8 @@ def is_number_word(word, digits):
     if not 1 <= len(bare) <= digits or not all([letter in DIGITS for letter in bare]):
         return False
     return bare[0] != "0" or word == "0"
+
+
+def is_count_word(word, digits):
+    """Whether a word is a number from 0 on as texts write it, with at most this many digits."""
+    return word[:1] != "-" and is_number_word(word, digits)

@@ -40,7 +40,7 @@ def _is_entry(house, entry, kinds):
     return True
 
 
-def _full_values(house, kind, given):
+def full_values(house, kind, given):
     """The values of all fields of a thing, in order, with copies of its lists."""
     values = {}
     for field in house.fields_of(kind):
@@ -53,7 +53,7 @@ def _full_values(house, kind, given):
     return values
 
 
-def _renumbered(values, slots, numbers):
+def renumbered(values, slots, numbers):
     """Values of a thing in which links and lists, the slots, hold other numbers."""
     new = dict(values)
     for name in slots:
@@ -63,6 +63,29 @@ def _renumbered(values, slots, numbers):
         elif value is not None:
             new[name] = numbers[value]
     return new
+
+
+def held_things(values, slots):
+    """The things to which the steps of a thing with these values lead; slots are the names of its links and lists."""
+    held = []
+    for name in slots:
+        value = values[name]
+        if isinstance(value, list):
+            held.extend(value)
+        elif value is not None:
+            held.append(value)
+    return held
+
+
+def step_leads(values, slots, step):
+    """The thing to which a step of a thing with these values leads; None for any value that is not a step of it."""
+    if not isinstance(step, tuple) or len(step) != 2 or step[0] not in slots:
+        return None
+    field, place = step
+    value = values[field]
+    if isinstance(value, list):
+        return value[place] if is_index(place, len(value)) else None
+    return value if place is None else None
 
 
 class Web:
@@ -84,7 +107,7 @@ class Web:
         self.here = here
         self.old = old
         self._kinds = kinds
-        self._values = [_full_values(house, kind, given) for kind, given in things]
+        self._values = [full_values(house, kind, given) for kind, given in things]
 
     def __eq__(self, other):
         return (isinstance(other, Web) and self.here == other.here and self.old == other.old
@@ -123,7 +146,7 @@ class Web:
 
     def things(self):
         """The pairs (kind, values) of all things, with all fields."""
-        return [(kind, _full_values(self.house, kind, values)) for kind, values in zip(self._kinds, self._values)]
+        return [(kind, full_values(self.house, kind, values)) for kind, values in zip(self._kinds, self._values)]
 
     def steps(self, thing):
         """The steps of a thing, in order."""
@@ -138,25 +161,13 @@ class Web:
 
     def held_by(self, thing):
         """The things to which the steps of a thing lead, in the order of its steps."""
-        held = []
-        for name in self.house.slots_of(self.kind_of(thing)):
-            value = self._values[thing][name]
-            if isinstance(value, list):
-                held.extend(value)
-            elif value is not None:
-                held.append(value)
-        return held
+        slots = self.house.slots_of(self.kind_of(thing))
+        return held_things(self._values[thing], slots)
 
     def follow(self, thing, step):
         """The thing to which a step leads; None for any value that is not a step of the thing."""
-        kind = self.kind_of(thing)
-        if not isinstance(step, tuple) or len(step) != 2 or step[0] not in self.house.slots_of(kind):
-            return None
-        field, place = step
-        value = self._values[thing][field]
-        if isinstance(value, list):
-            return value[place] if is_index(place, len(value)) else None
-        return value if place is None else None
+        slots = self.house.slots_of(self.kind_of(thing))
+        return step_leads(self._values[thing], slots, step)
 
     def thing_at(self, way, *, start=None):
         """The thing to which a way leads from start, or from here; None if it is not a way from there."""
@@ -200,7 +211,7 @@ class Web:
         things = []
         for thing in chosen:
             kind = self._kinds[thing]
-            things.append((kind, _renumbered(self._values[thing], self.house.slots_of(kind), numbers)))
+            things.append((kind, renumbered(self._values[thing], self.house.slots_of(kind), numbers)))
         old = None if self.old is None else numbers[self.old]
         return Web(self.house, things, here=numbers[self.here], old=old)
 

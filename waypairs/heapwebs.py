@@ -1,0 +1,27 @@
+"""The webs of what is reached in a heap."""
+
+from waypairs.webs import Web, renumbered
+
+
+def reached_from(heap, root):
+    """The things of a heap that are reached from one of them, as they are met."""
+    met = [root]
+    seen = {root: True}
+    at = 0
+    while at < len(met):
+        for held in heap.held_by(met[at]):
+            if held not in seen:
+                seen[held] = True
+                met.append(held)
+        at += 1
+    return met
+
+
+def web_of(heap, house, chosen, *, old=None):
+    """The web, in a house, of chosen things of a heap, in this order; here is the first one."""
+    numbers = {n: at for at, n in enumerate(chosen)}
+    things = []
+    for n in chosen:
+        kind = heap.kind_of(n)
+        things.append((kind, renumbered(heap.content_of(n), house.slots_of(kind), numbers)))
+    return Web(house, things, here=0, old=None if old is None else numbers[old])
