@@ -63,9 +63,10 @@ def names_of_one_value(function):
     """For each name the names that an assignment of the function lets go by one value with it."""
     groups = {}
     for node in ast.walk(function):
-        if isinstance(node, ast.Assign) and isinstance(node.value, (ast.Name, ast.IfExp, ast.BoolOp)):
-            names = {one.id for part in [*node.targets, node.value] for one in ast.walk(part)
-                     if isinstance(one, ast.Name)}
+        if isinstance(node, ast.Assign):
+            value = node.value
+            parts = [value.body, value.orelse] if isinstance(value, ast.IfExp) else getattr(value, "values", [value])
+            names = {one.id for one in [*node.targets, *parts] if isinstance(one, ast.Name)}
             for name in list(names):
                 names |= groups.get(name, set())
             for name in names:
