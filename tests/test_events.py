@@ -109,7 +109,8 @@ class TestWalkFault(unittest.TestCase):
     def test_wrong_values(self):
         for at in (0, 3, len(self.events) - 1):
             event = self.events[at]
-            wrong = [list(event), (*event, 0), event[:-1], (event[0].upper(), *event[1:]), (*event[:-1], True), (event,)]
+            wrong = [list(event), (*event, 0), event[:-1], (event[0].upper(), *event[1:]), (*event[:-1], True),
+                     (event,)]
             for value in any_values() + wrong:
                 self.check([*self.events[:at], value, *self.events[at + 1:]], at)
 

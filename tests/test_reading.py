@@ -4,7 +4,7 @@ import random
 import unittest
 
 from tests.drawn import drawn_home, drawn_house
-from tests.samples import chain, link, many, mark, node_house, raised, town_house, town_web
+from tests.samples import chain, link, many, mark, node_house, raised
 from waypairs.errors import BadSaved
 from waypairs.kinds import House, Kind
 from waypairs.reading import read_saved
@@ -59,8 +59,8 @@ class TestRight(Reading):
 
     def test_references_on_all_sides(self):
         things = self.read(root(to="#0", any="#1", leaves="[#2,#3,#2]", all="[#1,#4]"), root(1, to="#0", all="[#5]"),
-                           "2 Leaf a=1 tag=#6", "3 Leaf a=2 tag=-", "4 Note line=3", "5 Root m=0 to=#1 any=- leaves=[#2] "
-                           "all=[#4,#5] tag=-", "6 Tag code=1 tone=1")
+                           "2 Leaf a=1 tag=#6", "3 Leaf a=2 tag=-", "4 Note line=3",
+                           root(5, to="#1", leaves="[#2]", all="[#4,#5]"), "6 Tag code=1 tone=1")
         self.assertEqual(things[0], ("Root", {"m": 0, "to": 0, "any": 1, "leaves": [2, 3, 2], "all": [1, 4],
                                               "tag": None}))
         self.assertEqual(things[5][1]["leaves"], [2])

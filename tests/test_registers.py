@@ -2,7 +2,7 @@
 
 import unittest
 
-from tests.samples import any_values, chain, link, many, mark, node_house, raised, town_house, town_web
+from tests.samples import any_values, chain, many, mark, node_house, raised, town_web
 from waypairs.errors import BadWeb
 from waypairs.kinds import House, Kind
 from waypairs.registers import Register
@@ -19,8 +19,8 @@ HOUSE = House("Root", [
 
 
 def house_web():
-    things = [("Zed", {"code": 7, "tone": 1}), ("Ada", {"b": 3, "key": 7}), ("Note", {"line": 7}), ("Zed", {"code": -7}),
-              ("Ada", {"key": 0}), ("Zed", {"code": 10 ** 30 - 1}), ("Ada", {"key": -1})]
+    things = [("Zed", {"code": 7, "tone": 1}), ("Ada", {"b": 3, "key": 7}), ("Note", {"line": 7}),
+              ("Zed", {"code": -7}), ("Ada", {"key": 0}), ("Zed", {"code": 10 ** 30 - 1}), ("Ada", {"key": -1})]
     return Web(HOUSE, [("Root", {"all": list(range(1, 8))}), *things])
 
 

@@ -5,7 +5,7 @@ import unittest
 
 from tests.drawn import drawn_home, drawn_house
 from tests.plain import shuffled, some_web
-from tests.samples import any_values, chain, link, many, mark, node_house, raised, town_house, town_web
+from tests.samples import any_values, chain, link, many, mark, node_house, raised, town_web
 from waypairs.errors import BadWeb, TooLarge
 from waypairs.kinds import House, Kind
 from waypairs.matching import alike

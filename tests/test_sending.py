@@ -4,7 +4,7 @@ import random
 import unittest
 
 from tests.drawn import drawn_edition, drawn_home, drawn_house, drawn_travel
-from tests.samples import chain, link, many, mark, node_house, raised, town_house, town_web
+from tests.samples import chain, link, many, mark, node_house, raised, town_web
 from waypairs.errors import BadSaved, BadTravel, BadWeb, Endless, TooLarge
 from waypairs.heapwebs import reached_from, web_of
 from waypairs.kinds import House, Kind

@@ -8,7 +8,7 @@ from tests.plainwalk import PlainEnd, PlainHeap
 from tests.samples import any_values, chain, link, many, mark, node_house, raised, town_house, town_web
 from waypairs.editions import reader_fault
 from waypairs.errors import BadTravel, BadWeb, Endless, TooLarge, UnknownField
-from waypairs.kinds import Field, House, Kind
+from waypairs.kinds import House, Kind
 from waypairs.rules import fault
 from waypairs.travels import Travel
 from waypairs.walk import Heap, Walk
