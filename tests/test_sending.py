@@ -6,7 +6,7 @@ import unittest
 from tests.drawn import drawn_edition, drawn_home, drawn_house, drawn_travel
 from tests.samples import chain, link, many, mark, node_house, raised, town_web
 from waypairs.errors import BadSaved, BadTravel, BadWeb, Endless, TooLarge
-from waypairs.heapwebs import reached_from, web_of
+from waypairs.heapwebs import web_of
 from waypairs.kinds import House, Kind
 from waypairs.reading import brought
 from waypairs.registers import Register
@@ -14,7 +14,7 @@ from waypairs.rules import fault
 from waypairs.saved import saved, sent
 from waypairs.travels import Travel
 from waypairs.walk import Heap, Walk
-from waypairs.webs import Web
+from waypairs.webs import Web, met_from
 
 NODE = node_house()
 TAG = Kind("Tag", [mark("code"), mark("tone")], key="code", registered=True)
@@ -40,7 +40,7 @@ def travelled(travel, web):
     """The saved text of the web of level 1."""
     heap = Heap(web)
     root = Walk(heap, travel).finish()
-    return saved(web_of(heap, travel.target, reached_from(heap, root)))
+    return saved(web_of(heap, travel.target, met_from(heap, root)))
 
 
 class TestSent(unittest.TestCase):

@@ -252,7 +252,8 @@ class TestTold(unittest.TestCase):
             tail = () if word == "two" else (NO,)
             for kind, other, memos, name in [
                     ("Root", "Root", (YES, NO), "merged"), ("Root", "Root", (NO, YES), None),
-                    ("Root", "Ice", (YES, YES), None), ("Leaf", "Leaf", (YES, YES), None), ("Ice", "Ice", (YES, YES), None)]:
+                    ("Root", "Ice", (YES, YES), None), ("Leaf", "Leaf", (YES, YES), None),
+                    ("Ice", "Ice", (YES, YES), None)]:
                 standing = (word, kind, (1, 2), other, (1,), memos, *tail)
                 self.check(lens, standing, name, [Manners()] if name else [])
         lens = lens_of(self.house, {("Root", "m"): "lost"}, rules=[{"Root": "marks"}])

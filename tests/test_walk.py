@@ -219,6 +219,64 @@ class TestFates(unittest.TestCase):
                                 ("leave", 0), ("leave", 1), ("leave", 0)])
 
 
+class TestRules(unittest.TestCase):
+    """A list that holds two things of one kind, the first one twice: which copies it holds, by the rule of the kind."""
+
+    house = House("Hall", [
+        Kind("Hall", [many("all")]), Kind("Base", [mark("b"), link("to", "Leaf")], heirs=True),
+        Kind("Heir", [mark("h")], base="Base"), Kind("Ice", [mark("m"), link("leaf", "Leaf")], frozen=True),
+        Kind("Note", [mark("k"), mark("m")], key="k"), Kind("Tag", [mark("k"), mark("m")], key="k", registered=True),
+        Kind("Leaf", [mark("m")]),
+    ])
+
+    def copies(self, kind, rule, first, second):
+        web = Web(self.house, [("Hall", {"all": [1, 2, 1]}), (kind, first), (kind, second)])
+        heap, told = walked(web, Travel(self.house, rules={kind: rule}))
+        self.assertEqual({event[3] for event in told if event[0] == "enter"}, {0})
+        return [n - heap.root for n in heap[heap.root, "all"]]
+
+    def test_each_kind_by_each_rule(self):
+        for kind, first, second in [("Base", {"b": 1}, {"b": 2}), ("Heir", {"b": 1, "h": 1}, {"b": 1, "h": 2}),
+                                    ("Ice", {"m": 1}, {"m": 2}), ("Note", {"k": 1}, {"k": 2}),
+                                    ("Tag", {"k": 1, "m": 5}, {"k": 2, "m": 5}), ("Leaf", {"m": 1}, {"m": 2}),
+                                    ("Heir", {"b": 1, "h": 1}, {"b": 2, "h": 1})]:
+            self.assertEqual(self.copies(kind, "itself", first, second), [1, 2, 1])
+            self.assertEqual(self.copies(kind, "marks", first, second), [1, 2, 1])
+            self.assertEqual(self.copies(kind, "never", first, second), [1, 2, 3])
+
+    def test_equal_marks(self):
+        for kind, values in [("Base", {"b": 1}), ("Heir", {"b": 1, "h": -1}), ("Ice", {"m": 3}), ("Leaf", {})]:
+            self.assertEqual(self.copies(kind, "itself", values, values), [1, 2, 1])
+            self.assertEqual(self.copies(kind, "marks", values, values), [1, 1, 1])
+            self.assertEqual(self.copies(kind, "never", values, values), [1, 2, 3])
+
+    def test_equal_marks_of_unlike_kinds(self):
+        web = Web(self.house, [("Hall", {"all": [1, 2]}), ("Leaf", {"m": 1}), ("Ice", {"m": 1})])
+        heap, _ = walked(web, Travel(self.house, rules={"Leaf": "marks", "Ice": "marks"}))
+        self.assertEqual(heap[3, "all"], [4, 5])
+
+    def test_the_rule_of_the_base_is_that_of_its_heirs(self):
+        web = Web(self.house, [("Hall", {"all": [1, 2, 1, 2]}), ("Base", {}), ("Heir", {})])
+        for rules, expected in [({"Base": "never"}, [4, 5, 6, 7]), ({"Base": "never", "Heir": "itself"}, [4, 5, 6, 5]),
+                                ({"Heir": "never"}, [4, 5, 4, 6])]:
+            heap, _ = walked(web, Travel(self.house, rules=rules))
+            self.assertEqual(heap[3, "all"], expected)
+
+    def test_the_memo_of_a_kind_that_is_never_known(self):
+        web = Web(self.house, [("Hall", {"all": [1, 1]}), ("Leaf", {})])
+        _, told = walked(web, Travel(self.house, rules={"Leaf": "never"}, fates={("Hall", "all"): "new"}))
+        self.assertEqual(told, [("enter", 0, 2, 0), ("enter", 1, 3, 1), ("leave", 1), ("enter", 1, 4, 2), ("leave", 1),
+                                ("leave", 0)])
+
+    def test_the_rule_of_the_root(self):
+        house = House("Root", [Kind("Root", [mark("m"), many("all", "Root"), link("leaf", "Leaf")]), Kind("Leaf", [])])
+        web = Web(house, [("Root", {"m": 1, "all": [0, 1], "leaf": 2}), ("Root", {"m": 1, "leaf": 2}), ("Leaf", {})])
+        for rule, expected in [("itself", [3, 4]), ("marks", [3, 3])]:
+            heap, _ = walked(web, Travel(house, rules={"Root": rule}))
+            self.assertEqual(heap[3, "all"], expected)
+        raised(Endless, walked, web, Travel(house, rules={"Root": "never"}))
+
+
 class TestSteps(unittest.TestCase):
     def test_what_is_there_after_each_step(self):
         heap = Heap(pair_web())

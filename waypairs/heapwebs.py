@@ -1,20 +1,6 @@
-"""The webs of what is reached in a heap."""
+"""Webs of things of a heap."""
 
 from waypairs.webs import Web, renumbered
-
-
-def reached_from(heap, root):
-    """The things of a heap that are reached from one of them, as they are met."""
-    met = [root]
-    seen = {root: True}
-    at = 0
-    while at < len(met):
-        for held in heap.held_by(met[at]):
-            if held not in seen:
-                seen[held] = True
-                met.append(held)
-        at += 1
-    return met
 
 
 def web_of(heap, house, chosen, *, old=None):

@@ -2,11 +2,11 @@
 
 from waypairs.errors import BadRow, BadWeb
 from waypairs.forms import is_index
-from waypairs.heapwebs import reached_from, web_of
+from waypairs.heapwebs import web_of
 from waypairs.rows import check_following
 from waypairs.rules import fault
 from waypairs.walk import Heap, Walk
-from waypairs.webs import Web, renumbered
+from waypairs.webs import Web, met_from, renumbered
 
 
 class Journey:
@@ -34,7 +34,7 @@ class Journey:
     def numbers_at(self, level):
         """The numbers in the heap of the things of the web of a level, in the order of the web."""
         self._check_level(level)
-        return reached_from(self.heap, self.roots[level])
+        return met_from(self.heap, self.roots[level])
 
     def came(self):
         """The web that came back."""

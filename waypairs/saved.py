@@ -1,10 +1,11 @@
 """Saving webs as texts, and travels that send one."""
 
 from waypairs.errors import BadTravel, BadWeb, TooLarge
-from waypairs.heapwebs import reached_from, web_of
+from waypairs.heapwebs import web_of
 from waypairs.savedlines import MOST_LINES
 from waypairs.travels import Travel
 from waypairs.walk import Heap, Walk
+from waypairs.webs import met_from
 
 
 def _check_named(web, named):
@@ -64,7 +65,8 @@ def saved(web, *, named=()):
         kind = web.kind_of(thing)
         words = [str(len(lines)), kind]
         for field in web.house.fields_of(kind):
-            words.append(f"{field.name}={_value_text(field.mode, web[thing, field.name], numbers)}")
+            told = _value_text(field.mode, web[thing, field.name], numbers)
+            words.append(f"{field.name}={told}")
         lines.append(" ".join(words))
     return "\n".join(lines)
 
@@ -85,7 +87,7 @@ def sent(travel, web):
         raise BadWeb(-1)
     heap = Heap(web)
     root = Walk(heap, _copying(travel)).finish()
-    chosen = reached_from(heap, root)
+    chosen = met_from(heap, root)
     # Nothing stays in a saving travel, so a home thing among them was found by its name.
     named = [at for at, n in enumerate(chosen) if heap.travel_of(n) == 0]
     return saved(web_of(heap, travel.source, chosen), named=named)

@@ -88,6 +88,20 @@ def step_leads(values, slots, step):
     return value if place is None else None
 
 
+def met_from(holder, start):
+    """The things of a web or heap that are reached from one of them, as they are met."""
+    met = [start]
+    seen = {start: True}
+    at = 0
+    while at < len(met):
+        for held in holder.held_by(met[at]):
+            if held not in seen:
+                seen[held] = True
+                met.append(held)
+        at += 1
+    return met
+
+
 class Web:
     """Things of a house, numbered from 0, and the two roots."""
 
@@ -179,25 +193,12 @@ class Web:
                 return None
         return thing
 
-    def _met_from(self, start):
-        """The things that are reached from a thing, as they are met."""
-        met = [start]
-        seen = {start: True}
-        at = 0
-        while at < len(met):
-            for held in self.held_by(met[at]):
-                if held not in seen:
-                    seen[held] = True
-                    met.append(held)
-            at += 1
-        return met
-
     def reached(self, *, both=False):
         """The things that are reached from here, as they are met; with both, behind them those from old."""
-        met = self._met_from(self.here)
+        met = met_from(self, self.here)
         if both and self.old is not None:
             seen = {thing: True for thing in met}
-            return met + [thing for thing in self._met_from(self.old) if thing not in seen]
+            return met + [thing for thing in met_from(self, self.old) if thing not in seen]
         return met
 
     def trimmed(self):
