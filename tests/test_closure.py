@@ -4,16 +4,19 @@ import random
 import unittest
 from unittest import mock
 
-from tests.drawn import drawn_house, drawn_row
+from tests.drawn import drawn_home, drawn_house, drawn_row
 from tests.plainstandings import plain_closure
 from tests.samples import any_values, link, many, mark, node_house, raised
 from waypairs.closure import Closure
-from waypairs.errors import BadStanding, TooLarge
+from waypairs.errors import BadStanding, Endless, TooLarge
+from waypairs.journeys import ideal, journey
 from waypairs.kinds import Field, House, Kind
+from waypairs.manners import Manners
+from waypairs.matching import alike
 from waypairs.oneway import Lens
 from waypairs.rowrings import ring_of
 from waypairs.rows import Row
-from waypairs.standings import steps
+from waypairs.standings import steps, told_by
 from waypairs.travels import Travel
 
 YES, NO = True, False
@@ -128,6 +131,31 @@ class TestClosure(Closures):
 
 
 class TestDrawn(Closures):
+    def test_sets_that_tell_by_no_standing_see_the_ideal_pair(self):
+        chance = random.Random(92)
+        quiet = telling = 0
+        for _ in range(70):
+            house = drawn_house(chance, with_kinds=chance.choice([(), ("Tag",), ("Froz", "Leaf")]))
+            fates = chance.choice([("goes",), ("goes", "new"), ("goes", "named"), ("goes", "stays", "new", "named")])
+            row = drawn_row(chance, house, chance.randrange(1, 4), saving=0.2, fates=fates)
+            lens = Lens(row)
+            if ring_of(lens) is not None:
+                continue
+            told = [least for standing, _ in Closure(lens).table() for least in told_by(lens, standing)]
+            for _ in range(6):
+                web = drawn_home(chance, house, chance.choice([2, 4, 7]), marks=chance.choice([1, 3]))
+                try:
+                    pair = journey(row, web).pair()
+                except (Endless, TooLarge):
+                    continue
+                for manners in Manners.every():
+                    if not any(least.within(manners) for least in told):
+                        self.assertTrue(alike(pair, ideal(web), manners))
+                        quiet += 1
+                    else:
+                        telling += not alike(pair, ideal(web), manners)
+        self.assertGreater(min(quiet, telling), 100)
+
     def test_drawn(self):
         chance = random.Random(91)
         count = 0
