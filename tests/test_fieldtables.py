@@ -197,6 +197,10 @@ class TestTables(unittest.TestCase):
         self.assertEqual(list(FieldTable.between(writer, OTHER)), list(table))
         self.assertNotEqual(FieldTable.between(writer, OTHER), table)
         self.assertNotEqual(table, list(table))
+        # Equal entries, but another reader.
+        reader = edition(mark("x", was=["a"]), link("b", "Leaf"), mark("d"), many("e", "Root"))
+        self.assertEqual(list(FieldTable.between(BACK, reader)), list(table))
+        self.assertNotEqual(FieldTable.between(BACK, reader), table)
 
     def test_any_values(self):
         table = FieldTable.between(BACK, OTHER)

@@ -147,7 +147,8 @@ class TestWrong(Reading):
 
     def test_lists(self):
         for word in ["", "-", "#0", "[", "]", "][", "[#0", "#0]", "[,]", "[#0,]", "[,#0]", "[#0,,#0]", "[#0 ,#0]",
-                     "[#0;#0]", "[-]", "(#0)", "[[#0]]", "[[]]", "[0]", "[#0]]"]:
+                     "[#0;#0]", "[-]", "(#0)", "[[#0]]", "[[]]", "[0]", "[#0]]",
+                     "(#0]", "[#0)", "x#0]", "[#0x", "##0]", "[]]", "[[]", "[] "]:
             self.wrong(0, root(all=word))
 
     def test_no_line_refers_to_it(self):
@@ -194,6 +195,9 @@ class TestWrong(Reading):
 
     def test_two_wrong_lines(self):
         self.wrong(1, root(all="[#1,#2]"), "no", "no")
+        self.wrong(1, root(to="#1"), "no", root(1))
+        self.wrong(1, root(to="#1"), root(), root(1))
+        self.wrong(1, root(to="#1"), "1 Leaf a=0 tag=-", root(1))
         self.wrong(1, root(all="[#1,#2]"), root(1, to="#9"), "no")
         self.wrong(1, root(to="#1", any="#2"), "1 Leaf a=0 tag=-", root(2, leaves="[#0]"))
         self.wrong(0, root(to="#1", leaves="[#0]"), "1 Leaf a=0 tag=-")

@@ -95,6 +95,17 @@ class TestRings(Rings):
         ring = self.check(Row([COPY, COPY, Travel(HOUSE, rules={"Other": "never"})]), 3)
         self.assertEqual((ring.lead, ring.ring), ([("a", "Part"), ("b", "Other")], [("d", "Other")]))
 
+    def test_a_way_round_by_a_kind_that_is_known(self):
+        house = House("Root", [
+            Kind("Root", [link("a", "Known"), link("b", "Other")]), Kind("Known", [link("c", "Root")]),
+            Kind("Other", [link("d", "Known"), link("e", "Third")]), Kind("Third", [link("f", "Other")])])
+        rules = {"Root": "never", "Other": "never", "Third": "never"}
+        ring = self.check(Row([Travel(house, rules=rules)]), 1)
+        self.assertEqual((ring.lead, ring.ring), ([("b", "Other")], [("e", "Third"), ("f", "Other")]))
+        self.assertIsNone(ring_in(Travel(house, rules={"Root": "never", "Other": "never"})))
+        ring = self.check(Row([Travel(house, rules=rules, fates={("Known", "c"): "new"})]), 1)
+        self.assertIn("Known", [kind for _, kind in ring.ring])
+
     def test_the_first_travel(self):
         new = Travel(HOUSE, fates={("Part", "b"): "new"})
         never = Travel(HOUSE, rules={"Other": "never"})

@@ -51,7 +51,7 @@ def _next_event(walk):
 
 def _is_event(value, due):
     """Whether any value is the event that is due; no value is where none is due."""
-    if due is None or not isinstance(value, tuple) or len(value) != len(due):
+    if due is None or not isinstance(value, tuple):
         return False
     return all([is_integer(number) for number in value[1:]]) and value == due
 

@@ -1,7 +1,7 @@
 """Fields along a row, and tables of fields between editions."""
 
 from waypairs.editions import reader_fault, source_field
-from waypairs.errors import BadReader, BadRow, UnknownKind
+from waypairs.errors import BadReader, BadRow
 from waypairs.rows import first_unfit
 
 
@@ -118,26 +118,18 @@ class FieldTable:
         """Whether every field has the field of its own name."""
         return all([field == name for _, field, name in self._rows])
 
-    def _check(self, kind):
-        """Raises for any value that is not the name of a kind."""
-        if kind not in self.reader:
-            raise UnknownKind(kind)
-
     def _is_taken(self, kind, name):
         """Whether some field of a kind of the reader has a writer's field."""
         return name in [self._sources[kind, field.name] for field in self.reader.fields_of(kind)]
 
     def taken_of(self, kind):
         """The writer's fields of a kind that fields of the reader have, in order."""
-        self._check(kind)
         return [field.name for field in self.writer.fields_of(kind) if self._is_taken(kind, field.name)]
 
     def dropped_of(self, kind):
         """The writer's other fields of a kind, in order."""
-        self._check(kind)
         return [field.name for field in self.writer.fields_of(kind) if not self._is_taken(kind, field.name)]
 
     def added_of(self, kind):
         """The reader's fields of a kind that have no field of the writer, in order."""
-        self._check(kind)
         return [field.name for field in self.reader.fields_of(kind) if self._sources[kind, field.name] is None]

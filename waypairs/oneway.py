@@ -1,6 +1,6 @@
 """Words of ways: by which travels the thing was made to which a way leads."""
 
-from waypairs.errors import BadStanding, UnknownKind
+from waypairs.errors import BadStanding
 from waypairs.fieldtables import astray, fates_along
 from waypairs.forms import is_integer
 
@@ -62,8 +62,6 @@ class Lens:
 
     def rules(self, kind):
         """The rules of a kind at all travels."""
-        if kind not in self.row.home:
-            raise UnknownKind(kind)
         return tuple([travel.rule(kind) for travel in self.row])
 
     def is_word(self, value):

@@ -20,7 +20,7 @@ def _read_references(mode, word):
     """The list of references of a link or list, or None if a word is no value of one."""
     if mode == "link":
         words = [] if word == NOTHING else [word]
-    elif word[:1] != "[" or word[-1:] != "]" or len(word) < 2:
+    elif word[:1] != "[" or word[-1:] != "]":
         return None
     else:
         words = [] if word == "[]" else word[1:-1].split(",")
@@ -38,8 +38,9 @@ def read_line(house, number, line):
         return None
     values = {}
     for field, word in zip(fields, words[2:]):
-        name, sign, told = word.partition("=")
-        if name != field.name or sign == "":
+        # A word without the sign has an empty value, which has no form.
+        name, _, told = word.partition("=")
+        if name != field.name:
             return None
         if field.mode != "mark":
             values[name] = _read_references(field.mode, told)
@@ -109,10 +110,8 @@ class SavedLines:
 
     def _takes_name(self, target, found):
         """Takes a reference by name; whether it is right."""
-        kind = found[0]
-        if self._known is None or kind not in self._house or not self._house.is_registered(kind):
-            return False
-        if not self._house.admits(target, kind) or found not in self._known:
+        # The register has names of registered kinds of the house alone.
+        if self._known is None or found not in self._known or not self._house.admits(target, found[0]):
             return False
         self.named[found] = True
         return True
