@@ -32,10 +32,16 @@ class StepGroup:
     Two different steps can be taken by them if there are several, or one that is a list.
     """
 
-    def __init__(self, fates, kinds):
+    def __init__(self, fates, kinds, name, has_two):
         self.fate_row = fates
         self.kinds = kinds
-        self.has_two = False
+        self.names = [name]
+        self.has_two = has_two
+
+    def add_slot(self, name):
+        """Adds a link or list."""
+        self.names.append(name)
+        self.has_two = True
 
 
 class Lens:
@@ -123,11 +129,9 @@ class Lens:
             if fates is not None:
                 field = home.field_of(kind, name)
                 if (fates, field.target) in found:
-                    group = found[fates, field.target]
-                    group.has_two = True
+                    found[fates, field.target].add_slot(name)
                 else:
-                    group = StepGroup(fates, home.admitted(field.target))
-                    group.has_two = field.mode == "list"
+                    group = StepGroup(fates, home.admitted(field.target), name, field.mode == "list")
                     found[fates, field.target] = group
         return list(found.values())
 

@@ -1,6 +1,8 @@
 """Rings of rows: travels that do not end on some home web."""
 
-from waypairs.webs import Web
+from waypairs.chains import chains_from
+from waypairs.freshmarks import fresh_marks
+from waypairs.grownwebs import GrownWeb
 
 
 class RowRing:
@@ -26,27 +28,12 @@ def _walked_steps(lens, travel):
     return found
 
 
-def _chains_from(steps, start, kinds):
-    """Shortest chains of steps (field, kind) from a kind to each one that it leads to, through some kinds alone."""
-    chains = {start: []}
-    order = [start]
-    at = 0
-    while at < len(order):
-        kind = order[at]
-        at += 1
-        for name, other, _ in steps[kind]:
-            if other in kinds and other not in chains:
-                chains[other] = [*chains[kind], (name, other)]
-                order.append(other)
-    return chains
-
-
 def _new_ring(steps, reached):
     """The kind where a ring begins with a step of the fate new, and the ring; None if there is none."""
     for kind in reached:
         for name, other, fate in steps[kind]:
             if fate == "new":
-                chains = _chains_from(steps, other, reached)
+                chains = chains_from(steps, other, reached)
                 if kind in chains:
                     return (kind, [(name, other), *chains[kind]])
     return None
@@ -58,7 +45,7 @@ def _never_ring(lens, travel, steps, reached):
     for kind in never:
         for name, other, _ in steps[kind]:
             if other in never:
-                chains = _chains_from(steps, other, never)
+                chains = chains_from(steps, other, never)
                 if kind in chains:
                     return (kind, [(name, other), *chains[kind]])
     return None
@@ -84,7 +71,7 @@ def ring_of(lens):
     home = lens.row.home
     for travel in range(1, lens.size + 1):
         steps = _walked_steps(lens, travel)
-        leads = _chains_from(steps, home.root, home.names)
+        leads = chains_from(steps, home.root, home.names)
         found = _new_ring(steps, leads)
         if found is None:
             found = _never_ring(lens, travel, steps, leads)
@@ -94,31 +81,12 @@ def ring_of(lens):
     return None
 
 
-def _marks_of_things(house, kinds):
-    """For each thing of these kinds its marks: all different, and different from all defaults."""
-    defaults = [field.default for kind in house.names for field in house.fields_of(kind)]
-    marks = []
-    number = 0
-    for kind in kinds:
-        values = {}
-        for name in house.marks_of(kind):
-            number += 1
-            while number in defaults:
-                number += 1
-            values[name] = number
-        marks.append(values)
-    return marks
-
-
 def ring_web(lens, ring):
     """A home web with this ring, on which its travel never ends."""
     home = lens.row.home
-    steps = [*ring.lead, *ring.ring]
-    # The last step leads back to the thing at which the ring begins.
-    kinds = [home.root] + [kind for _, kind in steps[:-1]]
-    things = []
-    for at, values in enumerate(_marks_of_things(home, kinds)):
-        field = home.field_of(kinds[at], steps[at][0])
-        held = at + 1 if at + 1 < len(kinds) else len(ring.lead)
-        things.append((kinds[at], {**values, field.name: [held] if field.mode == "list" else held}))
-    return Web(home, things)
+    grown = GrownWeb(home)
+    begin = grown.grow(0, ring.lead)
+    grown.grow_back(begin, ring.ring, begin)
+    for thing, marks in enumerate(fresh_marks(home, grown.kinds_so_far())):
+        grown.give_marks(thing, marks)
+    return grown.finished()

@@ -50,25 +50,31 @@ def _check(lens, standing):
 
 
 class Following:
-    """The standings that follow from one of them, collected each once for each cost."""
+    """The standings that follow from one of them, collected each once for each cost, with a move that leads there.
+
+    A move is a tuple (word, first, second). The word is "both" if the two ways take the same step, "apart" if they lead
+    to two things then, "meet" if they come to one thing, "swap" if they change places, "join" if nothing is done.
+    First and second are the steps of the two ways, (group, kind), None for a way that takes none.
+    """
 
     def __init__(self, lens):
         self.lens = lens
         self._found = {}
 
-    def add_standing(self, standing, cost):
+    def add_standing(self, standing, cost, move):
         """Adds a standing."""
-        self._found[standing, cost] = True
+        if (standing, cost) not in self._found:
+            self._found[standing, cost] = move
 
-    def add_meeting(self, kind, made, others, memos, cost, *, same=None):
+    def add_meeting(self, kind, made, others, memos, cost, move, *, same=None):
         """Adds what arises when both ways come to one thing of a kind, if anything new does."""
         ones = meeting(self.lens.rules(kind), made, others, memos, same=same)
         if not ones[-1]:
-            self.add_standing(("torn", kind, made, others, ones, memos), cost)
+            self.add_standing(("torn", kind, made, others, ones, memos), cost, move)
 
-    def all_found(self):
-        """All that were added, with their costs."""
-        return list(self._found)
+    def moves(self):
+        """The moves that lead to what was added, by standings and costs."""
+        return {reached: self._found[reached] for reached in self._found}
 
 
 def _taken(lens, kind, made):
@@ -91,9 +97,10 @@ def _add_partings(following, kind, made, others, memos):
             both = alone(other_group.fate_row, other_new, new, first)
             for one in group.kinds:
                 for other in other_group.kinds:
-                    following.add_standing(("two", one, new, other, other_new, both), 2)
+                    move = ("apart", (group, one), (other_group, other))
+                    following.add_standing(("two", one, new, other, other_new, both), 2, move)
                 if one in other_group.kinds:
-                    following.add_meeting(one, new, other_new, both, 2)
+                    following.add_meeting(one, new, other_new, both, 2, ("meet", (group, one), (other_group, one)))
 
 
 def _add_holdings(following, kind, made, others, memos):
@@ -103,9 +110,9 @@ def _add_holdings(following, kind, made, others, memos):
         after = alone(group.fate_row, new, others, memos)
         for one in group.kinds:
             free = not house.is_frozen(kind) and not house.is_frozen(one)
-            following.add_standing(("held", kind, others, one, new, after, free), 1)
+            following.add_standing(("held", kind, others, one, new, after, free), 1, ("apart", (group, one), None))
         if kind in group.kinds and not house.is_frozen(kind):
-            following.add_meeting(kind, new, others, after, 1)
+            following.add_meeting(kind, new, others, after, 1, ("meet", (group, kind), None))
 
 
 def _from_one(following, standing):
@@ -113,7 +120,7 @@ def _from_one(following, standing):
     _, kind, made = standing
     for group, new in _taken(following.lens, kind, made):
         for one in group.kinds:
-            following.add_standing(("one", one, new), 2)
+            following.add_standing(("one", one, new), 2, ("both", (group, one), (group, one)))
     memos = tuple([travel in made for travel in range(1, following.lens.size + 1)])
     _add_partings(following, kind, made, made, memos)
     _add_holdings(following, kind, made, made, memos)
@@ -130,10 +137,11 @@ def _from_torn(following, standing):
         if other_new is not None:
             both = together(group.fate_row, new, other_new, memos, same)
             for one in group.kinds:
-                following.add_meeting(one, new, other_new, both, 2, same=same)
+                move = ("both", (group, one), (group, one))
+                following.add_meeting(one, new, other_new, both, 2, move, same=same)
     _add_partings(following, kind, made, others, memos)
     _add_holdings(following, kind, made, others, memos)
-    following.add_standing(("torn", kind, others, made, same, memos), 0)
+    following.add_standing(("torn", kind, others, made, same, memos), 0, ("swap", None, None))
 
 
 def _from_two(following, standing):
@@ -142,18 +150,20 @@ def _from_two(following, standing):
     for group, new in _taken(following.lens, kind, made):
         after = alone(group.fate_row, new, others, memos)
         for one in group.kinds:
-            following.add_standing(("two", one, new, other_kind, others, after), 1)
+            move = ("apart", (group, one), None)
+            following.add_standing(("two", one, new, other_kind, others, after), 1, move)
         if other_kind in group.kinds:
-            following.add_meeting(other_kind, new, others, after, 1)
+            following.add_meeting(other_kind, new, others, after, 1, ("meet", (group, other_kind), None))
     for group, new in _taken(following.lens, other_kind, others):
         after = alone(group.fate_row, new, made, memos)
         for one in group.kinds:
-            following.add_standing(("two", kind, made, one, new, after), 1)
+            move = ("apart", None, (group, one))
+            following.add_standing(("two", kind, made, one, new, after), 1, move)
         if kind in group.kinds:
-            following.add_meeting(kind, made, new, after, 1)
+            following.add_meeting(kind, made, new, after, 1, ("meet", None, (group, kind)))
     if kind == other_kind and _is_joinable(following.lens.row.home, kind):
         if meeting(following.lens.rules(kind), made, others, memos, home=False)[-1]:
-            following.add_standing(("joined", kind, made, others), 0)
+            following.add_standing(("joined", kind, made, others), 0, ("join", None, None))
 
 
 def _from_held(following, standing):
@@ -163,13 +173,15 @@ def _from_held(following, standing):
     for group, new in _taken(following.lens, other_kind, others):
         after = alone(group.fate_row, new, made, memos)
         for one in group.kinds:
-            following.add_standing(("held", kind, made, one, new, after, free and not house.is_frozen(one)), 1)
+            still_free = free and not house.is_frozen(one)
+            move = ("apart", (group, one), None)
+            following.add_standing(("held", kind, made, one, new, after, still_free), 1, move)
         if free and kind in group.kinds:
-            following.add_meeting(kind, new, made, after, 1)
+            following.add_meeting(kind, new, made, after, 1, ("meet", (group, kind), None))
 
 
-def steps(lens, standing):
-    """The standings that follow directly, each with its cost."""
+def moves_from(lens, standing):
+    """The moves that lead from a standing to those that follow, by tuples of these and their costs."""
     _check(lens, standing)
     following = Following(lens)
     if standing[0] == "one":
@@ -180,7 +192,12 @@ def steps(lens, standing):
         _from_two(following, standing)
     elif standing[0] == "held":
         _from_held(following, standing)
-    return following.all_found()
+    return following.moves()
+
+
+def steps(lens, standing):
+    """The standings that follow directly, each with its cost."""
+    return list(moves_from(lens, standing))
 
 
 def _fault_of_one(lens, kind, made):
