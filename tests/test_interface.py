@@ -27,6 +27,25 @@ FUNCTIONS = {
                  "meeting(rules, made, others, memos, *, same=None, home=True)"],
     "standings": ["steps(lens, standing)", "told_by(lens, standing)", "fault(lens, standing)"],
     "editions": ["source_field(writer, reader, kind, field)", "reader_fault(writer, reader)", "led(web, reader)"],
+    "verdicts": ["judge(row)"],
+    "leastweb": ["made_example(lens, closure, standing, manners)"],
+    "entrygraph": ["copied_steps(travel, kind, *, going=False)"],
+    "rings": ["ranks_of(travel)", "ranks_fault(travel, ranks)", "shortest_ring(travel)", "ring_fault(travel, found)",
+              "web_of_ring(travel, found)"],
+    "growth": ["most_entries(travel, size)", "growth_fault(travel, table)"],
+    "family": ["family(travel, many)"],
+    "pairjudge": ["closed_fault(row, table)", "quiet_fault(row, table, manners)", "cost_bound(row, table, manners)"],
+    "comparers": ["comparer_text(comparer)", "read_comparer(house, text)"],
+    "comparing": ["compare(comparer, first, second, *, most=2000)"],
+    "comparejudge": ["met_kinds(comparer)", "judge_comparer(comparer, manners)", "ranks(comparer)",
+                     "wrong_result(comparer, manners, first, second, *, most=2000)", "fitting(house, kind, manners)",
+                     "fewest_guards(house, manners)", "right_comparer(house, manners)"],
+    "manysets": ["least_telling(verdict)", "greatest_quiet(verdict)"],
+    "heirs": ["with_heir(row, kind)", "closed(row, *, only=None)", "judge_open(row)", "heir_harm(row)",
+              "safe_kinds(row, manners)"],
+    "mends": ["mended(row, changes)", "lots(row, pool)", "lot_profiles(row, pool)", "least_mends(row, pool, manners)",
+              "spoilers(row, pool, manners)"],
+    "matrix": ["there_and_back(writer, reader)", "matrix(houses)"],
 }
 CLASSES = {
     "kinds": {
@@ -101,6 +120,42 @@ CLASSES = {
     "closure": {
         "Closure(lens)": ["table(self)", "cost(self, standing)", "trail(self, standing)"],
     },
+    "verdicts": {
+        "Verdict": ["faults(self)", "tells(self, manners)", "quiet(self, manners)", "cost(self, manners)",
+                    "table(self)", "example(self, manners)"],
+    },
+    "leastweb": {"Example": []},
+    "entrygraph": {
+        "EntryGraph(travel)": ["met(self, kind)", "leaving(self, kind)", "__len__(self)", "__iter__(self)"],
+    },
+    "rings": {"KindRing(lead, ring)": ["__eq__(self, other)"]},
+    "growth": {
+        "Growth(travel)": ["spreads(self, kind)", "moves(self, state)", "table(self)", "trail(self)"],
+    },
+    "comparers": {
+        "Comparer(house, *, out=(), guards=None)": [
+            "__eq__(self, other)", "guard_of(self, kind)", "entry(self, kind)", "is_in(self, kind, field)",
+            "with_guard(self, kind, guard)", "with_out(self, kind, field)", "with_in(self, kind, field)"],
+    },
+    "comparing": {
+        "Comparing(comparer, first, second, *, most=2000)": [
+            "step(self)", "finish(self)", "events(self)", "notes(self)", "on_way(self)"],
+    },
+    "comparejudge": {
+        "ComparerVerdict": ["causes(self)", "__len__(self)"],
+        "Cause": ["pair(self)"],
+    },
+    "manysets": {
+        "Profile(sets=())": [
+            "of(verdict)", "greatest(self)", "is_quiet", "within(self, other)", "__eq__(self, other)",
+            "__or__(self, other)", "__and__(self, other)", "__contains__(self, x)", "__len__(self)", "__iter__(self)"],
+    },
+    "mends": {"Change(travel, kind, field, value)": ["__eq__(self, other)"]},
+    "matrix": {
+        "Atlas(home, travels)": [
+            "runs(self, most=4)", "row_named(self, names)", "profile(self, names)",
+            "quiet_runs(self, manners, most=2)", "healed(self, manners, most=2)"],
+    },
 }
 
 
@@ -140,6 +195,9 @@ class TestInterface(unittest.TestCase):
         for name in ("between", "through", "along"):
             self.assertIsInstance(vars(table)[name], classmethod)
         self.assertIsInstance(vars(table)["is_plain"], property)
+        profile = importlib.import_module("waypairs.manysets").Profile
+        self.assertIsInstance(vars(profile)["of"], classmethod)
+        self.assertIsInstance(vars(profile)["is_quiet"], property)
 
 
 if __name__ == "__main__":

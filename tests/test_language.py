@@ -25,7 +25,8 @@ STATEMENTS = (ast.Assign, ast.AugAssign, ast.If, ast.While, ast.For, ast.Return,
               ast.Raise, ast.Assert, ast.Delete, ast.Try, ast.Expr, ast.FunctionDef, ast.ClassDef, ast.ImportFrom)
 DESCRIBED_ORDER = """errors kinds webs rules webtext manners clients clientrun refine matching parting alikejudge
     editions registers travels memos walk events saved reading rows fieldtables journeys
-    oneway rowrings meetings standings closure""".split()
+    oneway rowrings meetings standings closure leastweb verdicts entrygraph rings growth family pairjudge
+    comparers comparing comparejudge manysets heirs mends matrix""".split()
 
 
 def trees():

@@ -116,6 +116,11 @@ def _all_fields(kind, by_name):
     return by_name[kind.base].fields + kind.fields
 
 
+def has_own(house, kind, field):
+    """Whether any values are a kind of a house and an own field of this kind."""
+    return kind in house and field in [own.name for own in house.kind_named(kind).fields]
+
+
 def _far_from(name, leads):
     """The names to which one or more steps lead from a name; leads has those of one step."""
     found = list(leads[name])

@@ -2,6 +2,7 @@
 
 from waypairs.editions import reader_fault
 from waypairs.errors import BadReader, BadTravel, UnknownField, UnknownKind
+from waypairs.kinds import has_own
 
 MARK_FATES = ("goes", "lost")
 SLOT_FATES = ("goes", "new", "stays", "lost", "named")
@@ -10,15 +11,10 @@ RULES = ("itself", "marks", "never")
 HEARD_FATES = ("goes", "goes", "goes")
 
 
-def _has_own(house, kind, field):
-    """Whether a kind of the house has a field as its own."""
-    return kind in house and field in [own.name for own in house.kind_named(kind).fields]
-
-
 def _check_keys(source, fates, rules, unheard):
     """Raises for the least key that is wrong, of each dict in turn."""
     for kind, field in sorted(fates):
-        if not _has_own(source, kind, field):
+        if not has_own(source, kind, field):
             raise BadTravel(kind, field)
     for kind in sorted(rules):
         if kind not in source:
@@ -110,7 +106,7 @@ class Travel:
     def _owner(self, kind, field):
         """The kind that has a field of a kind as its own; raises for any values that are no kind and no field."""
         for name in (kind, self.source.kind_named(kind).base):
-            if _has_own(self.source, name, field):
+            if has_own(self.source, name, field):
                 return name
         raise UnknownField(kind, field)
 
