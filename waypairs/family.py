@@ -84,8 +84,8 @@ def family(travel, many):
     web = FamilyWeb(travel, many)
     trail = growth.trail()
     for state, following in zip(trail, trail[1:]):
-        ways = growth.ways_on(state)
-        web.go_on(state, ways[following][1], following)
+        steps = growth.ways_on(state)
+        web.go_on(state, steps[following][1], following)
         if len(web.grown) > HOME_THINGS:
             raise TooLarge(HOME_THINGS)
     for thing, marks in enumerate(fresh_marks(travel.source, web.grown.kinds_so_far())):

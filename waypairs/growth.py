@@ -25,9 +25,9 @@ def most_entries(travel, size):
     for kind in sorted(graph.entered, key=lambda name: ranks[name]):
         weights[kind] = 1
         for _, name, other in graph.leaving(kind):
-            ways = size if graph.is_list(kind, name) else 1
+            places = size if graph.is_list(kind, name) else 1
             copies = size if graph.is_known(other) else 1
-            weights[kind] += weights[other] * ways * copies
+            weights[kind] += weights[other] * places * copies
     root = travel.source.root
     return weights[root] + size * sum([weights[kind] for kind in graph.met(root)])
 
@@ -55,8 +55,8 @@ class Growth:
 
     def moves(self, state):
         """The moves (state, gain) from a state."""
-        ways = self.ways_on(state)
-        return [(other, ways[other][0]) for other in ways]
+        found = self.ways_on(state)
+        return [(other, found[other][0]) for other in found]
 
     def table(self):
         """The states that are reached, with the greatest sums of gains from them on, the start first."""
@@ -118,11 +118,11 @@ class Growth:
     def _numbered(self):
         """The reached states, the start first, with the greatest sums of gains from them on."""
         order = [START]
-        ways = {}
+        moves = {}
         at = 0
         while at < len(order):
-            ways[order[at]] = self.moves(order[at])
-            for other, _ in ways[order[at]]:
+            moves[order[at]] = self.moves(order[at])
+            for other, _ in moves[order[at]]:
                 if other not in order:
                     order.append(other)
             at += 1
@@ -130,7 +130,7 @@ class Growth:
         # The ranks of the kinds fall with each move: after so many rounds nothing changes.
         for _ in range(len(self._graph.entered) + 1):
             for state in order[::-1]:
-                numbers[state] = max([gain + numbers[other] for other, gain in ways[state]], default=0)
+                numbers[state] = max([gain + numbers[other] for other, gain in moves[state]], default=0)
         return numbers
 
 

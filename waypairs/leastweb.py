@@ -12,10 +12,10 @@ from waypairs.twoways import grown_ways
 class Example:
     """A home web with two ways that show a fault, and a client that tells it."""
 
-    def __init__(self, web, client, ways, shown, manners):
+    def __init__(self, web, client, both, shown, manners):
         self.web = web
         self.client = client
-        self.one_way, self.other_way = ways
+        self.one_way, self.other_way = both
         self.fault = shown
         self.manners = manners
 
@@ -51,11 +51,11 @@ def _walked(name, root, way):
 class Ending:
     """The last lines of a client that tells by a standing, and what the last things of the ways must hold for it."""
 
-    def __init__(self, lens, standing, least, ways):
+    def __init__(self, lens, standing, least, both):
         self._lens = lens
         self._standing = standing
         self._least = least
-        self._ways = ways
+        self._twoways = both
         self._house = lens.row.home
         self._shown = fault(lens, standing)
         # The words of the line that changes a thing, but for its name.
@@ -63,7 +63,7 @@ class Ending:
 
     def prepare(self):
         """Lets the last things hold what the client needs."""
-        grown, thing = self._ways.grown, self._ways.ends[0]
+        grown, thing = self._twoways.grown, self._twoways.ends[0]
         if self._shown == "lost":
             broken = self._lens.broken(self._standing[1:])
             # A mark tells without another thing, which could be known by marks that are lost, too.
@@ -82,16 +82,16 @@ class Ending:
         marks = [name for name in self._house.marks_of(kind) if name != self._house.key_of(kind)]
         if marks:
             # The thing behind all others would have marks that none of them has.
-            later = fresh_marks(self._house, [*self._ways.grown.kinds_so_far(), kind])[-1]
+            later = fresh_marks(self._house, [*self._twoways.grown.kinds_so_far(), kind])[-1]
             self._change = ("mark", marks[0], later[marks[0]])
             return
-        used = self._ways.grown.used_slots(thing)
+        used = self._twoways.grown.used_slots(thing)
         if used:
             # The way round a ring leads on from the thing already.
             name = used[0]
         else:
             name = _slot_of(self._lens, self._standing)
-            self._ways.grown.fill(thing, name)
+            self._twoways.grown.fill(thing, name)
         if self._house.field_of(kind, name).mode == "link":
             self._change = ("link", name, None)
         else:
@@ -99,10 +99,10 @@ class Ending:
 
     def client_on(self, web):
         """The client."""
-        first, one = _walked("a", "here", self._ways.first)
+        first, one = _walked("a", "here", self._twoways.first)
         if self._shown == "lost":
             return [*first, ("see", one)]
-        second, other = _walked("b", "old" if "old" in self._least else "here", self._ways.second)
+        second, other = _walked("b", "old" if "old" in self._least else "here", self._twoways.second)
         if self._shown == "merged":
             return self._seen(web, first + second, [("see", one), ("see", other)])
         if self._change is None:
@@ -140,11 +140,12 @@ def _least_set(lens, closure, standing, manners):
 def made_example(lens, closure, standing, manners):
     """The example for a reached standing by which these manners tell."""
     least = _least_set(lens, closure, standing, manners)
-    ways = grown_ways(lens, closure, standing)
-    ending = Ending(lens, standing, least, ways)
+    both = grown_ways(lens, closure, standing)
+    shown = fault(lens, standing)
+    ending = Ending(lens, standing, least, both)
     ending.prepare()
-    if len(ways.grown) > HOME_THINGS:
+    if len(both.grown) > HOME_THINGS:
         raise TooLarge(HOME_THINGS)
-    ways.give_marks(standing[0] == "joined" or fault(lens, standing) == "merged")
-    web = ways.grown.finished()
-    return Example(web, ending.client_on(web), (ways.first, ways.second), fault(lens, standing), least)
+    both.give_marks(shown in ("joined", "merged"))
+    web = both.grown.finished()
+    return Example(web, ending.client_on(web), (both.first, both.second), shown, least)

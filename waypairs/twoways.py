@@ -60,10 +60,10 @@ class TwoWays:
 
 def grown_ways(lens, closure, standing):
     """Two ways that stand like this in a web, which has no marks yet."""
-    ways = TwoWays(lens.row.home)
+    made = TwoWays(lens.row.home)
     trail = closure.trail(standing)
     for before, behind in zip(trail, trail[1:]):
         cost = closure.cost(behind) - closure.cost(before)
         moves = moves_from(lens, before)
-        ways.make(moves[behind, cost])
-    return ways
+        made.make(moves[behind, cost])
+    return made

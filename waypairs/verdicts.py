@@ -11,7 +11,7 @@ GRAVEST = ("lost", "merged")
 
 
 def _gravest(found):
-    """The gravest faults among tuples (fault, standing, cost)."""
+    """The gravest faults among tuples that begin with a fault."""
     for word in GRAVEST:
         graver = [entry for entry in found if entry[0] == word]
         if graver:
@@ -28,7 +28,7 @@ class Verdict:
         self.ring = ring
         self._lens = lens
         self._closure = closure
-        # Tuples (fault, standing, cost) by cost.
+        # Tuples (fault, standing, cost, the least sets of manners that tell) by cost.
         self._found = [] if closure is None else self._found_in(closure.table())
 
     def _found_in(self, table):
@@ -37,25 +37,25 @@ class Verdict:
         for standing, cost in table:
             shown = fault(self._lens, standing)
             if shown is not None:
-                found.append((shown, standing, cost))
+                found.append((shown, standing, cost, told_by(self._lens, standing)))
         return _gravest(found)
 
     def faults(self):
         """The tuples (fault, kind, cost, manners), one for each fault and kind, by cost, fault and kind."""
         names = self.row.home.names
         least = {}
-        for shown, standing, cost in self._found:
+        for shown, standing, cost, told in self._found:
             spot = (shown, names.index(standing[1]))
             if spot not in least:
-                least[spot] = (cost, standing)
+                least[spot] = (cost, told)
         rows = sorted([(least[spot][0], spot[0], spot[1]) for spot in least])
-        return [(shown, names[place], cost, told_by(self._lens, least[shown, place][1])) for cost, shown, place in rows]
+        return [(shown, names[place], cost, list(least[shown, place][1])) for cost, shown, place in rows]
 
     def _first_told(self, manners):
-        """The first tuple (fault, standing, cost) of the least cost by which a set of manners tells, or None."""
-        for entry in self._found:
-            if any([least.within(manners) for least in told_by(self._lens, entry[1])]):
-                return entry
+        """The first standing of the least cost by which a set of manners tells, with this cost, or None."""
+        for _, standing, cost, told in self._found:
+            if any([least.within(manners) for least in told]):
+                return standing, cost
         return None
 
     def tells(self, manners):
@@ -69,7 +69,7 @@ class Verdict:
     def cost(self, manners):
         """The least cost of the faults that a set of manners tells, or None."""
         told = self._first_told(manners)
-        return None if told is None else told[2]
+        return None if told is None else told[1]
 
     def table(self):
         """The reached standings with their least costs; none if the row is endless."""
@@ -78,7 +78,7 @@ class Verdict:
     def example(self, manners):
         """An example for a set of manners that tells, None if the row is quiet for it or endless."""
         told = self._first_told(manners)
-        return None if told is None else made_example(self._lens, self._closure, told[1], manners)
+        return None if told is None else made_example(self._lens, self._closure, told[0], manners)
 
 
 def judge(row):
