@@ -88,7 +88,10 @@ class TestFamilies(Families):
         self.assertEqual(raised(Endless, family, Travel(node_house(), rules={"Node": "never"}), 200).travel, 1)
 
     def test_too_large(self):
-        self.assertEqual(self.check(Travel(node_house()), 60, 61, 200)[1:], [None, None])
+        chain = House("Root", [Kind("Root", [link("on", "Root")])])
+        for house, most in [(node_house(), 59), (chain, 60)]:
+            webs = self.check(Travel(house), most, most + 1, 200)
+            self.assertEqual((len(webs[0]), webs[1:]), (60, [None, None]))
         self.assertEqual(raised(TooLarge, family, Travel(node_house()), 200).count, 60)
 
     def test_small_sources(self):

@@ -207,7 +207,7 @@ class TestMoves(unittest.TestCase):
                 ["start"], ("start", None), ("Start",), "start", ("point",), ("point", "any"), ("point", "Node", None),
                 ("point", ["Node"]), ("points", "Node"), ("spread", "Node"), ("spread", "Node", "more"),
                 ("spread", "Node", "x"), ("spread", "Leaf", "m"), ("spread", "Root", None, 0), ("spread", "Root", ["all"]),
-                ("spread", "Root", True), ("one", "Root", (1,)), (START,), ("start", "Root"), (("start",), 0)]:
+                ("spread", "Root", True), ("point", "Node", "leaf"), ("points", "Node", None), ((), "Node", None), ("one", "Root", (1,)), (START,), ("start", "Root"), (("start",), 0)]:
             raised(BadStanding, growth.moves, value)
         stays = Growth(Travel(DEEP, fates={("Root", "all"): "stays"}))
         for state in (("point", "Node"), ("spread", "Root", "all"), ("spread", "Leaf", None)):

@@ -43,7 +43,21 @@ class Examples(unittest.TestCase):
         self.assertEqual(example.fault, fault(lens, standing))
         self.assertIn(example.manners, told_by(lens, standing))
         check_example(self, row, example, manners, closure.cost(standing))
+        words = [self.word(lens, example.web, way) for way in (example.one_way, example.other_way)]
+        made = standing[2:3] if standing[0] == "one" else standing[2:4]
+        if standing[0] in ("two", "held"):
+            made = (standing[2], standing[4])
+        # In a held standing the second way waits.
+        made = made[::-1] if standing[0] == "held" else made
+        self.assertEqual(words, [made[0], made[-1]])
         return example
+
+    def word(self, lens, web, way):
+        """The travels of the word of a way."""
+        word = lens.start[1:]
+        for count, (field, _) in enumerate(way, 1):
+            word = lens.step(word, field, web.kind_of(web.thing_at(way[:count])))
+        return word[1]
 
 
 class TestEachFault(Examples):
@@ -133,14 +147,15 @@ class TestEachFault(Examples):
                                Kind("Ice", [link("cold", "Cold"), many("colds", "Cold")], frozen=True),
                                Kind("Cold", [link("leaf", "Leaf"), many("leaves", "Leaf")], frozen=True),
                                Kind("Leaf", [mark("m")])])
-        row = Row([Travel(house, fates={("Root", "b"): "new", ("Ice", "cold"): "new"}, rules={"Cold": "never"})])
-        lens = Lens(row)
-        closure = Closure(lens)
-        told = [standing for standing, _ in closure.table() if fault(lens, standing) == "torn"]
-        self.assertEqual(len(told), 4)
-        for standing in told:
-            for manners in told_by(lens, standing):
-                self.made(row, standing, manners)
+        one = Travel(house, fates={("Root", "b"): "new", ("Ice", "cold"): "new"}, rules={"Cold": "never"})
+        other = Travel(house, fates={("Root", "a"): "stays", ("Cold", "leaf"): "stays"})
+        for travels, least in [([one], 4), ([other], 6), ([one, other], 14), ([other, one], 14)]:
+            lens = Lens(Row(travels))
+            told = [standing for standing, _ in Closure(lens).table() if fault(lens, standing) == "torn"]
+            self.assertGreaterEqual(len(told), least)
+            for standing in told:
+                for manners in told_by(lens, standing):
+                    self.made(lens.row, standing, manners)
 
     def test_joined(self):
         house = House("Root", [Kind("Root", [many("all", "Leaf"), link("one", "Leaf")]),
@@ -224,6 +239,13 @@ class TestRowsThatLose(Examples):
         verdict = judge(row)
         self.assertEqual(verdict.faults(), [("lost", "Root", 0, [NONE])])
         check_example(self, row, verdict.example(NONE), NONE, 0)
+
+    def test_a_slot_that_is_kept_is_taken(self):
+        house = House("Root", [Kind("Root", [link("a", "Node"), link("b", "Node")]),
+                               Kind("Node", [link("lost", "Leaf"), link("kept", "Leaf")]), Kind("Leaf", [])])
+        row = Row([Travel(house, rules={"Node": "never"}, fates={("Node", "lost"): "lost"})])
+        example = self.made(row, ("torn", "Node", (1,), (1,), (NO,), (YES,)), SET)
+        self.assertIn(("link", "a", "kept", None), example.client)
 
     def test_other_faults_of_rows_that_lose(self):
         chance = random.Random(71)

@@ -154,6 +154,14 @@ class TestQuietAndHealed(unittest.TestCase):
             self.assertEqual(raised(TooLarge, call, ALL, 3).count, 84)
             self.assertEqual(raised(TooLarge, call, NONE, most=4).count, 340)
         self.assertEqual(len(four.quiet_runs(ALL)), 20)
+        # Two travels at home, one there and one back, and two in the other house; or two there and none in it.
+        there, back, out = Travel(FIRST, reader=SECOND), Travel(SECOND, reader=FIRST), Travel(SECOND)
+        home = {"a": Travel(FIRST), "b": Travel(FIRST)}
+        within = Atlas(FIRST, {**home, "c": there, "d": back, "e": out, "f": out})
+        self.assertEqual((len(within.runs()), len(within.quiet_runs(ALL, 4)), within.healed(ALL, 4)), (62, 62, []))
+        above = Atlas(FIRST, {**home, "c": there, "d": there, "e": back})
+        for call in (above.quiet_runs, above.healed):
+            self.assertEqual(raised(TooLarge, call, ALL, 4).count, 68)
         with mock.patch("waypairs.matrix.MOST_RUNS", 20):
             self.assertEqual(len(four.quiet_runs(ALL)), 20)
         with mock.patch("waypairs.matrix.MOST_RUNS", 19):

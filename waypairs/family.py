@@ -32,8 +32,8 @@ class FamilyWeb:
         self.grown = GrownWeb(travel.source)
         self._graph = EntryGraph(travel)
         self._many = many
-        # The things of the last state.
-        self._ends = [0]
+        # The things of the last state, none at the start.
+        self._ends = []
 
     def go_on(self, state, step, following):
         """Adds the things of the state that follows on one by this step (field, kind), None for the start."""

@@ -2,9 +2,9 @@
 
 from waypairs.entrygraph import EntryGraph, copied_steps
 from waypairs.errors import BadStanding, Endless
-from waypairs.forms import is_integer
 from waypairs.rings import graph_ranks
 from waypairs.spreads import spreads_of
+from waypairs.tables import wrong_entry
 
 START = ("start",)
 
@@ -73,11 +73,9 @@ class Growth:
 
     def is_state(self, value):
         """Whether any value is a state of the travel."""
-        if not isinstance(value, tuple) or not value:
-            return False
         if value == START:
             return True
-        if len(value) < 2 or value[1] not in self._graph.entered:
+        if not isinstance(value, tuple) or len(value) < 2 or value[1] not in self._graph.entered:
             return False
         if value[0] == "point":
             return len(value) == 2
@@ -134,25 +132,13 @@ class Growth:
         return numbers
 
 
-def _entry_fault(growth, table):
-    """The first entry that is no state with a number or repeats a state, None if there is none; and the numbers."""
-    numbers = {}
-    for at, entry in enumerate(table):
-        if not isinstance(entry, tuple) or len(entry) != 2 or not growth.is_state(entry[0]):
-            return at, numbers
-        state, number = entry
-        if not is_integer(number) or number < 0 or state in numbers:
-            return at, numbers
-        numbers[state] = number
-    return None, numbers
-
-
 def growth_fault(travel, table):
     """None if a list of any values is a right growth table, otherwise where it is wrong first; -1 without the start."""
     growth = Growth(travel)
-    wrong, numbers = _entry_fault(growth, table)
+    wrong = wrong_entry(table, lambda value: growth.is_state(value))
     if wrong is not None:
         return wrong
+    numbers = {state: number for state, number in table}
     if START not in numbers:
         return -1
     for at, (state, number) in enumerate(table):

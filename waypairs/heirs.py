@@ -47,8 +47,10 @@ def _with_heirs(row, kinds):
 
 def _check_heir(home, kind):
     """Raises for a kind that cannot be an heir beside the kinds of the home."""
-    wrong = kind.frozen or kind.heirs or kind.registered or kind.key is not None or kind.name in home
-    if kind.base not in home or not home.lets_heirs(kind.base) or wrong:
+    if kind.base not in home or not home.lets_heirs(kind.base):
+        raise BadKind(kind.name)
+    # A kind with a base is neither frozen nor lets heirs, and one without a key is not registered.
+    if kind.key is not None or kind.name in home:
         raise BadKind(kind.name)
 
 

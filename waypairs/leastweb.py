@@ -127,10 +127,8 @@ def _told_at(row, web, client):
     return first_difference(client, pair, ideal(web))
 
 
-def _least_set(lens, closure, standing, manners):
-    """The first least set of manners, of those within the given ones, that tells by a reached standing."""
-    if closure.cost(standing) is None:
-        raise BadStanding()
+def _least_set(lens, standing, manners):
+    """The first least set of manners, of those within the given ones, that tells by a standing."""
     for least in told_by(lens, standing):
         if least.within(manners):
             return least
@@ -139,7 +137,8 @@ def _least_set(lens, closure, standing, manners):
 
 def made_example(lens, closure, standing, manners):
     """The example for a reached standing by which these manners tell."""
-    least = _least_set(lens, closure, standing, manners)
+    least = _least_set(lens, standing, manners)
+    # A standing that is not reached has no trail.
     both = grown_ways(lens, closure, standing)
     shown = fault(lens, standing)
     ending = Ending(lens, standing, least, both)

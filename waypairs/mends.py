@@ -108,7 +108,7 @@ def spoilers(row, pool, manners):
     for lot in profiles:
         for place in range(len(pool)):
             larger = tuple(sorted([*lot, place]))
-            if place not in lot and larger in profiles:
-                if manners not in profiles[lot] and manners in profiles[larger]:
-                    found.append((lot, place))
+            # Neither a place that the lot has already nor a change of the same entry makes a lot.
+            if larger in profiles and manners not in profiles[lot] and manners in profiles[larger]:
+                found.append((lot, place))
     return found

@@ -1,29 +1,17 @@
 """The judge of tables of standings; it searches for nothing."""
 
 from waypairs.errors import BadPaper
-from waypairs.forms import is_integer
 from waypairs.oneway import Lens
 from waypairs.standings import is_standing, steps, told_by
-
-
-def _entry_fault(lens, table):
-    """The first entry that is no standing with a cost or repeats a standing, None if there is none; and the costs."""
-    costs = {}
-    for at, entry in enumerate(table):
-        if not isinstance(entry, tuple) or len(entry) != 2 or not is_standing(lens, entry[0]):
-            return at, costs
-        standing, cost = entry
-        if not is_integer(cost) or cost < 0 or standing in costs:
-            return at, costs
-        costs[standing] = cost
-    return None, costs
+from waypairs.tables import wrong_entry
 
 
 def _closed_fault(lens, table):
     """None if a list of any values is a closed table, otherwise where it is wrong first."""
-    wrong, costs = _entry_fault(lens, table)
+    wrong = wrong_entry(table, lambda value: is_standing(lens, value))
     if wrong is not None:
         return wrong
+    costs = {standing: cost for standing, cost in table}
     if costs.get(lens.start) != 0:
         return -1
     for at, (standing, cost) in enumerate(table):

@@ -36,28 +36,12 @@ def by_branches(graph, kind):
     return found
 
 
-def _chained(graph, kind, name):
-    """The spreads along rings that begin at a known kind by this field, and pass on by kinds that are never known."""
-    found = [("spread", kind, name)]
-    at = 0
-    while at < len(found):
-        _, begin, field = found[at]
-        at += 1
-        for step, other in graph.going_from(begin):
-            if step != field or graph.is_known(other):
-                continue
-            for further in going_slots(graph, other):
-                spread = ("spread", other, further)
-                if kind in graph.ahead_by(other, further) and spread not in found:
-                    found.append(spread)
-    return found
-
-
 def spreads_of(graph, kind):
-    """The spreads of an entered kind."""
+    """The spreads of an entered kind, in the graph of a walk that always ends."""
     ends = [row[2] for row in by_lists(graph, kind)] + [row[3] for row in by_branches(graph, kind)]
     found = [("spread", other, None) for other in graph.met(kind) if other in ends]
-    for other in graph.met(kind):
-        for name in turning_slots(graph, other):
-            found.extend([spread for spread in _chained(graph, other, name) if spread not in found])
+    # Some kind of each ring is known, because the walk ends: so the kinds on rings that are never known are just those
+    # to which the fields of known kinds pass the ring on.
+    for other in graph.ahead_of(kind):
+        found.extend([("spread", other, name) for name in turning_slots(graph, other)])
     return found

@@ -19,8 +19,8 @@ class TwoWays:
         """Lets the ways go on by a move from one standing to another."""
         word, first, second = move
         if word == "swap":
+            # Ways that change places have come to one thing.
             self.first, self.second = self.second, self.first
-            self.ends = (self.ends[1], self.ends[0])
         elif word == "both":
             self._both(first)
         elif word != "join":
