@@ -240,6 +240,16 @@ class TestRowsThatLose(Examples):
         self.assertEqual(verdict.faults(), [("lost", "Root", 0, [NONE])])
         check_example(self, row, verdict.example(NONE), NONE, 0)
 
+    def test_what_a_lost_list_holds(self):
+        # In the other edition all roots have equal marks: a second one would be known there as the first one.
+        home = House("Root", [Kind("Root", [many("a", "Root"), many("b", "any")]), Kind("Dot", [])])
+        reader = House("Root", [Kind("Root", [many("x", "Root", was=["a"]), many("y", "any", was=["b"]), mark("z")]),
+                                Kind("Dot", [])])
+        row = Row([Travel(home, reader=reader), Travel(reader, rules={"Root": "marks"}),
+                   Travel(reader, fates={("Root", "x"): "new", ("Root", "y"): "new"}, reader=home)])
+        example = self.made(row, ("one", "Root", (1, 2, 3)), NONE)
+        self.assertEqual([kind for kind, _ in example.web.things()], ["Root", "Dot"])
+
     def test_a_slot_that_is_kept_is_taken(self):
         house = House("Root", [Kind("Root", [link("a", "Node"), link("b", "Node")]),
                                Kind("Node", [link("lost", "Leaf"), link("kept", "Leaf")]), Kind("Leaf", [])])

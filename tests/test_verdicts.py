@@ -17,6 +17,7 @@ from waypairs.oneway import Lens
 from waypairs.refine import sight
 from waypairs.rowrings import RowRing, ring_of
 from waypairs.rows import Row
+from waypairs.standings import fault
 from waypairs.travels import Travel
 from waypairs.verdicts import judge
 
@@ -328,7 +329,8 @@ class TestPromise(Verdicts):
 
     def check_costs(self, verdict, made, web):
         """Checks that no two ways of a web show a fault with too few steps; how many ways do show one."""
-        names = {name for name, _, _, _ in verdict.faults()}
+        lens = Lens(verdict.row)
+        names = {fault(lens, standing) for standing, _ in verdict.table()}
         pair = made.pair()
         numbers = made.pair_numbers()
         ways = [(way, web.thing_at(way), pair.thing_at(way)) for way in web.ways(25)]

@@ -43,9 +43,19 @@ class GrownWeb:
         self.let_hold(last, steps[-1][0], held)
 
     def fill(self, thing, name):
-        """Lets a link or list of a thing hold a new thing of some admitted kind; this new thing."""
+        """Lets a link or list of a thing hold a new thing, if possible the only one of its kind; this new thing."""
+        kinds = self.fresh_kinds(thing, name) + self._admitted(thing, name)
+        return self.grow(thing, [(name, kinds[0])])
+
+    def fresh_kinds(self, thing, name):
+        """The admitted kinds of a link or list of a thing of which there is no thing so far."""
+        so_far = self.kinds_so_far()
+        return [kind for kind in self._admitted(thing, name) if kind not in so_far]
+
+    def _admitted(self, thing, name):
+        """The admitted kinds of a link or list of a thing."""
         field = self.house.field_of(self.kind_of(thing), name)
-        return self.grow(thing, [(name, self.house.admitted(field.target)[0])])
+        return self.house.admitted(field.target)
 
     def kind_of(self, thing):
         """The kind of a thing."""

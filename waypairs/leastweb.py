@@ -65,16 +65,23 @@ class Ending:
         """Lets the last things hold what the client needs."""
         grown, thing = self._twoways.grown, self._twoways.ends[0]
         if self._shown == "lost":
-            broken = self._lens.broken(self._standing[1:])
-            # A mark tells without another thing, which could be known by marks that are lost, too.
-            if not any([name in broken for name in self._house.marks_of(self._standing[1])]):
-                grown.fill(thing, broken[0])
+            self._prepare_loss(thing)
         elif self._shown == "merged":
             # A thing that is held by the other one is unlike it already.
             if self._standing[0] == "two":
                 grown.fill(thing, _slot_of(self._lens, self._standing))
         elif "set" in self._least:
             self._prepare_change(thing)
+
+    def _prepare_loss(self, thing):
+        """Lets the thing hold something by a field that is broken, unless a mark is, which tells without it."""
+        broken = self._lens.broken(self._standing[1:])
+        if any([name in broken for name in self._house.marks_of(self._standing[1])]):
+            return
+        # What it holds should be of a kind of its own: else a walk may know it by equal marks as another thing, and
+        # make a ring.
+        fresh = [name for name in broken if self._twoways.grown.fresh_kinds(thing, name)]
+        self._twoways.grown.fill(thing, (fresh + broken)[0])
 
     def _prepare_change(self, thing):
         """Finds a change of the thing that looking tells."""
