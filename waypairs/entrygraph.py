@@ -53,7 +53,7 @@ class EntryGraph:
     def __iter__(self):
         return iter(self._edges)
 
-    def _check(self, kind):
+    def check_entered(self, kind):
         """Raises for any value that is not an entered kind."""
         if kind not in self.entered:
             raise UnknownKind(kind)
@@ -68,12 +68,12 @@ class EntryGraph:
 
     def met(self, kind):
         """The kinds that are met from an entered kind, in the order of the house."""
-        self._check(kind)
+        self.check_entered(kind)
         return [other for other in _kinds_ahead(self._going, [kind]) if self.is_known(other)]
 
     def leaving(self, kind):
         """The edges that begin at an entered kind, in order."""
-        self._check(kind)
+        self.check_entered(kind)
         return [edge for edge in self._edges if edge[0] == kind]
 
     def going_from(self, kind):

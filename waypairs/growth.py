@@ -50,7 +50,7 @@ class Growth:
 
     def spreads(self, kind):
         """The spreads of an entered kind."""
-        self._graph.met(kind)
+        self._graph.check_entered(kind)
         return list(self._spreads[kind])
 
     def moves(self, state):

@@ -29,9 +29,8 @@ def _travel_with(travel, kinds, source, target):
             fates[kind, field] = value
     for heir in kinds:
         rules[heir.name] = travel.rule(heir.base)
-        unheard = travel.unheard(heir.base)
         for field in heir.fields:
-            fates[heir.name, field.name] = unheard[UNHEARD_PLACES[field.mode]]
+            fates[heir.name, field.name] = travel.unheard(heir.base)[UNHEARD_PLACES[field.mode]]
     unheard = {kind: travel.unheard(kind) for kind in travel.source.names if travel.source.lets_heirs(kind)}
     return Travel(source, fates=fates, rules=rules, unheard=unheard, reader=target if travel.is_saving else None)
 
