@@ -45,6 +45,15 @@ class TestChange(unittest.TestCase):
             change = Change(travel=value, kind=value, field=value, value=value)
             self.assertEqual([change.travel, change.kind, change.field, change.value], [value] * 4)
 
+    def test_arguments_are_copied(self):
+        value = [["a"], ({"b": ["c"]},), 1]
+        changes = [Change(value, 1, None, 0), Change(0, value, None, 0), Change(0, 1, value, 0), Change(0, 1, None, value)]
+        value[0].append("x")
+        value[1][0]["b"].append("y")
+        value.append("z")
+        for change, name in zip(changes, ("travel", "kind", "field", "value")):
+            self.assertEqual(getattr(change, name), [["a"], ({"b": ["c"]},), 1])
+
     def test_equality(self):
         self.assertEqual(KEEP, Change(1, "Leaf", "n", "goes"))
         for other in (Change(2, "Leaf", "n", "goes"), Change(1, "Node", "n", "goes"), Change(1, "Leaf", None, "goes"),

@@ -138,6 +138,10 @@ class TestKindRing(unittest.TestCase):
         ring = KindRing(given, given)
         given.clear()
         self.assertEqual((len(ring.lead), len(ring.ring)), (1, 1))
+        inner = ["a", "Part"]
+        ring = KindRing([inner], [inner])
+        inner.clear()
+        self.assertEqual((ring.lead, ring.ring), ((["a", "Part"],), (["a", "Part"],)))
 
 
 class TestShortestRing(unittest.TestCase):

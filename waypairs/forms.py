@@ -1,4 +1,4 @@
-"""The forms of names and numbers."""
+"""The forms of names and numbers, and copies of any values."""
 
 SMALL = "abcdefghijklmnopqrstuvwxyz"
 LARGE = "ABCDEFGHIJKLMNOPQRSTUVWXYZ"
@@ -62,3 +62,14 @@ def is_number_word(word, digits):
 def is_count_word(word, digits):
     """Whether a word is a number from 0 on as texts write it, with at most this many digits."""
     return word[:1] != "-" and is_number_word(word, digits)
+
+
+def copied_value(value):
+    """A copy of any value, which later changes of its lists and dicts do not reach."""
+    if isinstance(value, list):
+        return [copied_value(part) for part in value]
+    if isinstance(value, tuple):
+        return tuple([copied_value(part) for part in value])
+    if isinstance(value, dict):
+        return {key: copied_value(value[key]) for key in value}
+    return value

@@ -1,6 +1,7 @@
 """Changes of a row, and the lots of a pool of them after which it is quiet."""
 
 from waypairs.errors import BadChange, TooLarge, WayError
+from waypairs.forms import copied_value
 from waypairs.kinds import has_own
 from waypairs.manysets import Profile
 from waypairs.rows import Row
@@ -13,10 +14,10 @@ class Change:
     """One entry of a row and its new value: a fate, or a rule if the field is None."""
 
     def __init__(self, travel, kind, field, value):
-        self.travel = travel
-        self.kind = kind
-        self.field = field
-        self.value = value
+        self.travel = copied_value(travel)
+        self.kind = copied_value(kind)
+        self.field = copied_value(field)
+        self.value = copied_value(value)
 
     def __eq__(self, other):
         return (isinstance(other, Change) and self.travel == other.travel and self.kind == other.kind

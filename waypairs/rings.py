@@ -3,7 +3,7 @@
 from waypairs.chains import chains_from, falling_ranks
 from waypairs.entrygraph import EntryGraph, copied_steps
 from waypairs.errors import BadPaper, TooLarge
-from waypairs.forms import is_integer
+from waypairs.forms import copied_value, is_integer
 from waypairs.grownwebs import GrownWeb
 from waypairs.rules import HOME_THINGS
 
@@ -34,8 +34,8 @@ class KindRing:
     """Copied steps (field, kind) that lead from the root kind to a ring, and those of the ring."""
 
     def __init__(self, lead, ring):
-        self.lead = tuple(lead)
-        self.ring = tuple(ring)
+        self.lead = copied_value(tuple(lead))
+        self.ring = copied_value(tuple(ring))
 
     def __eq__(self, other):
         return isinstance(other, KindRing) and self.lead == other.lead and self.ring == other.ring
