@@ -292,7 +292,6 @@ class TestStatements(unittest.TestCase):
                     if name in ("zip", "enumerate", "range", "reversed", "items", "keys", "values"):
                         self.assertIn(id(node), allowed, (path, node.lineno))
 
-
     def test_walked_lists_are_not_changed(self):
         """What a loop walks is not changed in it, nor a list that shares a name with it anywhere in the function."""
         for path, tree in TREES.items():
@@ -337,6 +336,8 @@ class TestClasses(unittest.TestCase):
             names = [function.name for function in functions(tree)
                      if any(isinstance(node, ast.Yield) for node in ast.walk(function))]
             self.assertLessEqual(set(names), {"ways", "walk_events"}, path)
+            self.assertEqual([node.lineno for node in ast.walk(tree) if isinstance(node, ast.Name)
+                              and node.id in ("ways", "walk_events")], [], path)
 
     def test_equality_form(self):
         for path, tree in TREES.items():
